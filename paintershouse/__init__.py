@@ -1,0 +1,1 @@
+"""Paintershouse: pictures that are edited."""

@@ -1,0 +1,78 @@
+"""The errors of the interface, and the names that stand in each file."""
+
+import importlib
+import unittest
+
+from paintershouse import errors
+
+INTERFACE = {
+    "errors": ["PaintError", "NotAllowed", "TooLarge", "Missing", "BadPaper", "BadForm"],
+    "pixels": [
+        "is_pixel", "check_pixel", "check_level", "check_mode", "scaled", "mixed", "put_together",
+        "blended", "faded",
+    ],
+    "pictures": [
+        "check_size", "check_picture", "size_of", "blank", "pixel_at", "points_of", "laid",
+        "cut_out", "flipped", "turned", "differing",
+    ],
+    "texts": ["pixel_text", "picture_text", "read_pixel", "read_picture"],
+    "regions": [
+        "check_sides", "check_region", "region_of", "points_in", "size_in", "has", "both", "either",
+        "less", "others", "moved", "flipped_region", "turned_region",
+    ],
+    "parts": ["parts", "holes", "filled", "parts_less_holes", "join_paper", "judge_join"],
+    "grown": ["check_stencil", "grown", "shrunk", "opened", "closed"],
+}
+
+CONSTANTS = {
+    "pixels": {
+        "MAX_LEVEL": 15,
+        "CLEAR": (0, 0, 0, 0),
+        "MODES": ("plain", "darker", "lighter", "times", "screen", "apart"),
+    },
+    "pictures": {"MAX_SIDE": 24},
+    "texts": {"MAX_TEXT": 4000},
+    "grown": {"MAX_REACH": 4},
+}
+
+
+class ErrorTests(unittest.TestCase):
+    def test_base_class(self):
+        self.assertEqual(errors.PaintError.__bases__, (ValueError,))
+
+    def test_each_error_stands_directly_under_it(self):
+        for name in INTERFACE["errors"][1:]:
+            with self.subTest(name=name):
+                self.assertEqual(getattr(errors, name).__bases__, (errors.PaintError,))
+
+    def test_plain_errors_take_words(self):
+        for name in ("NotAllowed", "TooLarge", "Missing", "BadPaper"):
+            with self.assertRaises(errors.PaintError):
+                raise getattr(errors, name)("words")
+
+    def test_bad_form_has_its_line(self):
+        for line in (0, 1, 25):
+            error = errors.BadForm(line)
+            self.assertIs(type(error.line), int)
+            self.assertEqual(error.line, line)
+
+
+class InterfaceTests(unittest.TestCase):
+    def test_each_name_is_defined_in_its_own_file(self):
+        for file, names in INTERFACE.items():
+            module = importlib.import_module("paintershouse." + file)
+            for name in names:
+                with self.subTest(file=file, name=name):
+                    self.assertEqual(getattr(module, name).__module__, module.__name__)
+
+    def test_constants(self):
+        for file, values in CONSTANTS.items():
+            module = importlib.import_module("paintershouse." + file)
+            for name, value in values.items():
+                with self.subTest(file=file, name=name):
+                    self.assertEqual(getattr(module, name), value)
+                    self.assertIs(type(getattr(module, name)), type(value))
+
+
+if __name__ == "__main__":
+    unittest.main()
