@@ -148,13 +148,13 @@ def judge_join(region, ways, first, second, paper):
     _check_join(region, ways, first, second)
     word, told = paper
     if word == "path":
-        return _is_path(region, ways, told) and told[0] == first and told[-1] == second
+        return _leads_on(region, ways, told) and told[0] == first and told[-1] == second
     if word == "wall":
-        return _is_wall(region, ways, told) and has(told, first) and not has(told, second)
+        return _closes_off(region, ways, told) and has(told, first) and not has(told, second)
     return False
 
 
-def _is_path(region, ways, told):
+def _leads_on(region, ways, told):
     if not told:
         return False
     for k, point in enumerate(told):
@@ -165,7 +165,7 @@ def _is_path(region, ways, told):
     return True
 
 
-def _is_wall(region, ways, told):
+def _closes_off(region, ways, told):
     """Tells whether runs are a region in another one that has with each point all its neighbours there."""
     for run in told:
         if len(run) != 3:

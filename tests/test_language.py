@@ -64,6 +64,7 @@ class FilesTests(unittest.TestCase):
         for path in FILES:
             text = path.read_text(encoding="utf-8")
             self.assertTrue(set(text) <= set(map(chr, range(32, 127))) | {"\n"}, path.name)
+            self.assertNotRegex(text, "_wall|_WallAttr", path.name)
             self.assertLessEqual(len(text.splitlines()), 399, path.name)
             for line in text.splitlines():
                 self.assertLessEqual(len(line), 120, path.name)
