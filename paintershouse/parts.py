@@ -167,9 +167,6 @@ def _leads_on(region, ways, told):
 
 def _closes_off(region, ways, told):
     """Tells whether runs are a region in another one that has with each point all its neighbours there."""
-    for run in told:
-        if len(run) != 3:
-            return False
     if not is_region(told):
         return False
     there = set(points_in(region))

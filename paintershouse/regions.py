@@ -11,9 +11,12 @@ def check_sides(sides):
 
 
 def is_region(region):
-    """Tells whether a tuple of triples of integers is a region."""
+    """Tells whether a tuple of tuples of integers is a region."""
     last_y, last_x = -1, -1
-    for y, first, last in region:
+    for run in region:
+        if len(run) != 3:
+            return False
+        y, first, last = run
         if not 0 <= y < MAX_SIDE or not 0 <= first <= last < MAX_SIDE:
             return False
         # Behind a run of the same row a column stays free.

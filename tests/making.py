@@ -2,6 +2,8 @@
 
 import itertools
 
+MODES = ("plain", "darker", "lighter", "times", "screen", "apart")
+
 
 class Maker:
     """Makes numbers, and what is built of them, from a seed alone."""
@@ -42,6 +44,52 @@ class Maker:
         if middle:
             pairs.add((0, 0))
         return tuple(sorted(pairs))
+
+    def one_of(self, values):
+        """Returns one of some values that stand in order."""
+        return values[self.number(0, len(values) - 1)]
+
+    def region(self, wide, high):
+        """Returns a region that may reach one point beyond a picture with these sides."""
+        return plain_region(self.points(min(wide + 1, 24), min(high + 1, 24), self.one_of((0, 20, 60, 100))))
+
+    def tables(self):
+        """Returns four tables, those that keep all levels, and that make all covers 0, among them."""
+        tables = [tuple(self.number(0, 15) for _ in range(16)) for _ in range(4)]
+        if self.number(0, 2) == 0:
+            tables[self.number(0, 3)] = tuple(range(16))
+        if self.number(0, 3) == 0:
+            tables[3] = (self.number(0, 1) * 7,) + (0,) * 15
+        return tuple(tables)
+
+    def path(self, wide, high):
+        """Returns a path in and about a picture with these sides."""
+        many = self.one_of((1, 1, 2, 3, 5))
+        return tuple((self.number(-3, wide + 2), self.number(-3, high + 2)) for _ in range(many))
+
+    def deed(self, word, wide, high):
+        """Returns a deed with this word, for a picture with these sides."""
+        if word in ("flip", "fall", "turn"):
+            return (word,)
+        if word == "move":
+            return (word, self.number(-wide - 1, wide + 1), self.number(-high - 1, high + 1))
+        paint = (self.pixel(), self.one_of(MODES), self.one_of((0, 15, self.number(1, 14))))
+        if word == "stroke":
+            brush = (self.one_of(("round", "square")), self.number(0, 3))
+            return (word, self.path(wide, high), brush) + paint
+        if word == "flood":
+            start = (self.number(0, min(wide, 23)), self.number(0, min(high, 23)))
+            return (word, start) + paint + (self.one_of((0, 15, self.number(1, 14))),)
+        region = self.region(wide, high)
+        if word == "fill":
+            return (word, region) + paint
+        if word == "erase":
+            return (word, region, self.one_of((0, 15, self.number(1, 14))))
+        if word == "tone":
+            return (word, region, self.tables())
+        if word == "copy":
+            return (word, region, self.number(-wide, wide), self.number(-high, high))
+        return (word, region, self.number(1, 3))
 
 
 def plain_region(points):

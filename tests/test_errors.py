@@ -22,6 +22,13 @@ INTERFACE = {
     ],
     "parts": ["parts", "holes", "filled", "parts_less_holes", "join_paper", "judge_join"],
     "grown": ["check_stencil", "grown", "shrunk", "opened", "closed"],
+    "distances": ["field", "within", "gap"],
+    "outlines": ["outlines", "from_outlines", "area_of", "length_of"],
+    "rectangles": ["fewest_rectangles", "crossing_paper", "least_by", "judge_cut", "chords"],
+    "flooding": ["step_between", "flooded"],
+    "strokes": ["check_path", "check_brush", "line_points", "stroke_region"],
+    "deeds": ["check_deed", "check_row", "flood_region", "done", "done_all"],
+    "shades": ["shade_of", "shaded", "behind", "fixed_pixel"],
 }
 
 CONSTANTS = {
@@ -33,6 +40,18 @@ CONSTANTS = {
     "pictures": {"MAX_SIDE": 24},
     "texts": {"MAX_TEXT": 4000},
     "grown": {"MAX_REACH": 4},
+    "strokes": {"MAX_PATH": 20, "MAX_REACH": 3, "SHAPES": ("round", "square")},
+    "deeds": {
+        "MAX_DEEDS": 40,
+        "MAX_NEAR": 3,
+        "POINTWISE": ("fill", "erase", "tone", "stroke"),
+        "CARRIERS": ("move", "flip", "fall", "turn", "copy"),
+        "NEIGHBOURS": ("mean", "swell"),
+        "SEEKERS": ("flood",),
+    },
+    "shades": {
+        "PLAIN_SHADE": (tuple(range(16)), (((0,) * 16,) + (tuple(range(16)),) * 15,) * 3),
+    },
 }
 
 

@@ -1,7 +1,9 @@
-"""Every example of the interface, with the answers that are written there."""
+"""Every example of the interface and of README.md, with the answers that are written there."""
 
 import doctest
+import re
 import unittest
+from pathlib import Path
 
 # The examples of one file go on with the names of those ahead of it.
 EXAMPLES = [
@@ -50,13 +52,74 @@ EXAMPLES = [
 >>> closed((3, 3), ring, cross)
 ((0, 0, 2), (1, 0, 2), (2, 0, 2))
 """),
+    ("distances", """
+>>> from paintershouse.distances import field, gap, within
+>>> field((3, 2), ((0, 0, 0),), "square"), within((3, 2), ((0, 0, 0),), "rook", 1), gap(ring, ((1, 1, 1),), "king")
+(((0, 1, 4), (1, 2, 5)), ((0, 0, 1), (1, 0, 0)), 1)
+"""),
+    ("outlines", """
+>>> from paintershouse.outlines import area_of, from_outlines, length_of, outlines
+>>> outlines(ring), [area_of(loop) for loop in outlines(ring)], length_of(ring), from_outlines(outlines(ring)) == ring
+((((0, 0), (3, 0), (3, 3), (0, 3)), ((1, 1), (1, 2), (2, 2), (2, 1))), [9, -1], 16, True)
+"""),
+    ("rectangles", """
+>>> from paintershouse.rectangles import chords, crossing_paper, fewest_rectangles, judge_cut, least_by
+>>> len(fewest_rectangles(ring)), least_by(ring, crossing_paper(ring)), judge_cut(ring, ((0, 0, 3, 1), (0, 1, 1, 3), (1, 2, 3, 3), (2, 1, 3, 2)))
+(4, 4, True)
+>>> plus = region_of([(1, 0), (0, 1), (1, 1), (2, 1), (1, 2)])
+>>> chords(plus), len(fewest_rectangles(plus))
+([((1, 1), (1, 2)), ((1, 1), (2, 1)), ((1, 2), (2, 2)), ((2, 1), (2, 2))], 3)
+>>> least_by(plus, ((((1, 1), (2, 1)), ((1, 1), (1, 2))), (((1, 2), (2, 2)), ((2, 1), (2, 2)))))
+3
+"""),
+    ("flooding", """
+>>> from paintershouse.flooding import flooded
+>>> black, grey = (0, 0, 0, 15), (6, 6, 6, 15)
+>>> flooded(((black, grey), (grey, black)), (0, 0), 0, 4), flooded(((black, grey), (grey, black)), (0, 0), 0, 8), flooded(((black, grey), (grey, black)), (0, 0), 6, 4)
+(((0, 0, 0),), ((0, 0, 0), (1, 1, 1)), ((0, 0, 1), (1, 0, 1)))
+"""),
+    ("strokes", """
+>>> from paintershouse.strokes import line_points, stroke_region
+>>> line_points((0, 0), (3, 1)), line_points((3, 1), (0, 0)), stroke_region(((1, 1),), ("round", 1))
+([(0, 0), (1, 0), (2, 1), (3, 1)], [(3, 1), (2, 1), (1, 0), (0, 0)], ((0, 1, 1), (1, 0, 2), (2, 1, 1)))
+"""),
+    ("deeds", """
+>>> from paintershouse.deeds import done, done_all, flood_region
+>>> red, blue, none = (15, 0, 0, 15), (0, 0, 15, 15), (0, 0, 0, 0)
+>>> picture = ((red, red, none), (blue, red, none))
+>>> done(picture, ("move", 1, 0)) == ((none, red, red), (none, blue, red)), flood_region(picture, (0, 0), 0)
+(True, ((0, 0, 1), (1, 1, 1)))
+>>> done(picture, ("mean", ((0, 2, 2),), 1))[0], done(picture, ("erase", ((0, 0, 1),), 5))[0]
+(((15, 0, 0, 15), (15, 0, 0, 15), (15, 0, 0, 3)), ((15, 0, 0, 10), (15, 0, 0, 10), (0, 0, 0, 0)))
+>>> done_all(picture, (("flip",), ("fall",))) == ((none, red, blue), (none, red, red))
+True
+"""),
+    ("shades", """
+>>> from paintershouse.shades import PLAIN_SHADE, behind, fixed_pixel, shade_of, shaded
+>>> half = shade_of(("erase", (), 8))
+>>> half[0], shaded(half, (9, 0, 3, 15)), fixed_pixel(shade_of(("fill", (), (1, 2, 3, 15), "plain", 15)))
+((0, 0, 1, 1, 2, 2, 3, 3, 4, 4, 5, 5, 6, 6, 7, 7), (9, 0, 3, 7), (1, 2, 3, 15))
+>>> behind(PLAIN_SHADE, half) == half, fixed_pixel(half)
+(True, None)
+"""),
 ]
+
+
+README = Path(__file__).resolve().parent.parent / "README.md"
 
 
 class ExamplesTests(unittest.TestCase):
     def test_examples(self):
+        self.run_texts(EXAMPLES)
+
+    def test_readme(self):
+        blocks = re.findall(r"^```\n(.*?)^```$", README.read_text(encoding="utf-8"), re.M | re.S)
+        self.assertGreater(len(blocks), 2)
+        self.run_texts([("README.md", block) for block in blocks])
+
+    def run_texts(self, texts):
         names = {}
-        for file, text in EXAMPLES:
+        for file, text in texts:
             for example in doctest.DocTestParser().get_examples(text):
                 with self.subTest(file=file, line=example.source):
                     self.run_example(example, names)

@@ -3,7 +3,10 @@
 import copy
 import unittest
 
-from paintershouse import errors, grown, parts, pictures, pixels, regions, texts
+from paintershouse import (
+    deeds, distances, errors, flooding, grown, outlines, parts, pictures, pixels, rectangles, regions, shades, strokes,
+    texts,
+)
 from tests.making import Maker
 
 RED, NONE = (15, 0, 0, 15), (0, 0, 0, 0)
@@ -11,6 +14,16 @@ PICTURE = ((RED, NONE, RED), (NONE, RED, RED))
 OTHER = ((RED, RED, RED), (NONE, NONE, RED))
 RING = ((0, 0, 2), (1, 0, 0), (1, 2, 2), (2, 0, 2))
 CROSS = ((-1, 0), (0, -1), (0, 0), (0, 1), (1, 0))
+PLUS = ((0, 1, 1), (1, 0, 2), (2, 1, 1))
+PAPER = ((((1, 1), (2, 1)), ((1, 1), (1, 2))),)
+PATH = ((-2, 0), (2, 1), (2, 5))
+PAINT = ((0, 9, 15, 9), "screen", 8)
+TABLES = (tuple(range(15, -1, -1)),) * 4
+DEEDS = (
+    ("fill", RING) + PAINT, ("erase", RING, 3), ("tone", RING, TABLES), ("stroke", PATH, ("round", 1)) + PAINT,
+    ("move", 1, -1), ("flip",), ("fall",), ("copy", RING, 1, 0), ("mean", RING, 2), ("swell", RING, 1),
+    ("flood", (0, 0)) + PAINT + (2,),
+)
 
 # A function, its arguments, and the kind of its result.
 CALLS = [
@@ -41,7 +54,26 @@ CALLS = [
     (grown.check_stencil, (CROSS,), None), (grown.grown, ((4, 4), RING, CROSS), tuple),
     (grown.shrunk, ((4, 4), RING, CROSS), tuple), (grown.opened, ((4, 4), RING, CROSS), tuple),
     (grown.closed, ((4, 4), RING, CROSS), tuple),
+    (distances.field, ((4, 4), RING, "square"), tuple), (distances.within, ((4, 4), RING, "rook", 1), tuple),
+    (distances.gap, (RING, PLUS, "king"), int),
+    (outlines.outlines, (RING,), tuple), (outlines.from_outlines, (outlines.outlines(RING),), tuple),
+    (outlines.area_of, (outlines.outlines(RING)[1],), int), (outlines.length_of, (RING,), int),
+    (rectangles.fewest_rectangles, (PLUS,), tuple), (rectangles.crossing_paper, (PLUS,), tuple),
+    (rectangles.least_by, (PLUS, PAPER), int), (rectangles.judge_cut, (RING, ((0, 0, 3, 3),)), bool),
+    (rectangles.judge_cut, (PLUS, rectangles.fewest_rectangles(PLUS)), bool), (rectangles.chords, (PLUS,), list),
+    (flooding.step_between, (RED, (1, 2, 3, 4)), int), (flooding.flooded, (PICTURE, (0, 0), 3, 8), tuple),
+    (strokes.check_path, (PATH,), None), (strokes.check_brush, (("round", 3),), None),
+    (strokes.line_points, ((0, 0), (5, -2)), list), (strokes.line_points, ((1, 1), (1, 1)), list),
+    (strokes.stroke_region, (PATH, ("square", 1)), tuple),
+    (deeds.check_row, (DEEDS,), None), (deeds.flood_region, (PICTURE, (0, 0), 2), tuple),
+    (deeds.done_all, (PICTURE, DEEDS), tuple), (deeds.done_all, (PICTURE, ()), tuple),
+    (shades.shade_of, (DEEDS[2],), tuple), (shades.shaded, (shades.PLAIN_SHADE, RED), tuple),
+    (shades.behind, (shades.shade_of(DEEDS[0]), shades.shade_of(DEEDS[1])), tuple),
+    (shades.fixed_pixel, (shades.shade_of(("erase", (), 15)),), tuple),
+    (shades.fixed_pixel, (shades.PLAIN_SHADE,), None),
 ]
+CALLS += [(deeds.check_deed, (deed,), None) for deed in DEEDS]
+CALLS += [(deeds.done, (PICTURE, deed), tuple) for deed in DEEDS]
 
 
 def spoil(answer):
