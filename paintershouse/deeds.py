@@ -54,7 +54,7 @@ def _is_part(name, part):
     if name == "level":
         return is_level(part)
     if name == "tables":
-        return _are_tables(part)
+        return are_tables(part)
     if name == "path":
         return is_path(part)
     if name == "brush":
@@ -69,7 +69,8 @@ def _is_part(name, part):
     return True
 
 
-def _are_tables(tables):
+def are_tables(tables):
+    """Tells whether a tuple of tuples of integers is four tables."""
     if len(tables) != 4:
         return False
     for table in tables:
@@ -157,13 +158,14 @@ def made_there(deed, pixel):
     if word == "erase":
         return faded(pixel, deed[2])
     if word == "tone":
-        return _toned(pixel, deed[2])
+        return toned(pixel, deed[2])
     first = 3 if word == "stroke" else 2
     above, mode, level = deed[first:first + 3]
     return blended(mode, pixel, above, level)
 
 
-def _toned(pixel, tables):
+def toned(pixel, tables):
+    """Returns what four tables make of a pixel."""
     levels = tuple([table[level] for table, level in zip(tables, pixel)])
     if levels[3] == 0:
         return CLEAR

@@ -4,6 +4,8 @@ import itertools
 
 MODES = ("plain", "darker", "lighter", "times", "screen", "apart")
 
+NAMES = [chr(97 + k // 26) + chr(97 + k % 26) for k in range(40)]
+
 
 class Maker:
     """Makes numbers, and what is built of them, from a seed alone."""
@@ -90,6 +92,38 @@ class Maker:
         if word == "copy":
             return (word, region, self.number(-wide, wide), self.number(-high, high))
         return (word, region, self.number(1, 3))
+
+    def mask(self, wide, high):
+        """Returns a mask, the empty one among them."""
+        if self.number(0, 2):
+            return ()
+        return tuple(tuple(self.one_of((0, 15, self.number(0, 15))) for _ in range(wide)) for _ in range(high))
+
+    def look(self, wide, high):
+        """Returns a look; most layers are shown, and many at the full level."""
+        shown = 0 if self.number(0, 5) == 0 else 1
+        return (shown, self.one_of(MODES), self.one_of((15, 15, 0, self.number(1, 14))), self.mask(wide, high))
+
+    def layers(self, wide, high, names, deep):
+        """Returns layers with these names, with groups at most so deep."""
+        made = []
+        while names:
+            name, names = names[0], names[1:]
+            kind = self.one_of(("paint", "paint", "tone", "group"))
+            look = self.look(wide, high)
+            if kind == "paint" or (kind == "group" and deep == 0):
+                made.append(("paint", name, look, self.picture(wide, high)))
+            elif kind == "tone":
+                made.append((kind, name, look, self.tables()))
+            else:
+                many = self.number(0, len(names))
+                made.append((kind, name, look, self.layers(wide, high, names[:many], deep - 1)))
+                names = names[many:]
+        return tuple(made)
+
+    def document(self, wide, high, many):
+        """Returns a document with so many layers."""
+        return (wide, high, self.layers(wide, high, NAMES[:many], 4))
 
 
 def plain_region(points):

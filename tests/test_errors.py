@@ -29,6 +29,22 @@ INTERFACE = {
     "strokes": ["check_path", "check_brush", "line_points", "stroke_region"],
     "deeds": ["check_deed", "check_row", "flood_region", "done", "done_all"],
     "shades": ["shade_of", "shaded", "behind", "fixed_pixel"],
+    "layers": [
+        "check_document", "seen", "over_all", "names_of", "layer", "add_above", "remove", "replace", "look_of",
+        "grouped", "flattened",
+    ],
+    "tiles": ["tiles_of", "tile_points", "tiles_in", "asks_of"],
+    "sight": ["has_there", "touched", "Sight"],
+    "smaller": ["mean_of", "smaller"],
+    "shelf": ["least_work", "best_plan", "best_prices", "plan_work", "bound_of"],
+    "bits": ["number_bits", "gamma", "pixel_bits", "check_bits", "BitReader"],
+    "leastcodes": ["least_lengths", "total_of", "tree_paper", "judge_tree", "codes_of"],
+    "guesses": ["folded", "unfolded", "guessed", "best_guesses", "pass_points"],
+}
+
+METHODS = {
+    ("sight", "Sight"): ["look", "exchange", "work", "made", "copy"],
+    ("bits", "BitReader"): ["number", "gamma", "pixel", "left"],
 }
 
 CONSTANTS = {
@@ -52,6 +68,10 @@ CONSTANTS = {
     "shades": {
         "PLAIN_SHADE": (tuple(range(16)), (((0,) * 16,) + (tuple(range(16)),) * 15,) * 3),
     },
+    "layers": {"MAX_ITEMS": 24, "MAX_NESTED": 4, "MAX_WORD": 8, "KINDS": ("paint", "group", "tone")},
+    "smaller": {"MAX_SMALLER": 8},
+    "shelf": {"MAX_ASKS": 60, "MAX_PIECE": 99, "MAX_PLACES": 8},
+    "leastcodes": {"MAX_SIGNS": 600},
 }
 
 
@@ -83,6 +103,13 @@ class InterfaceTests(unittest.TestCase):
             for name in names:
                 with self.subTest(file=file, name=name):
                     self.assertEqual(getattr(module, name).__module__, module.__name__)
+
+    def test_each_method_stands_in_its_own_class(self):
+        for (file, name), methods in METHODS.items():
+            module = importlib.import_module("paintershouse." + file)
+            for method in ["__init__"] + methods:
+                with self.subTest(name=name, method=method):
+                    self.assertIn(method, vars(getattr(module, name)))
 
     def test_constants(self):
         for file, values in CONSTANTS.items():

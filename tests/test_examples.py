@@ -102,6 +102,72 @@ True
 >>> behind(PLAIN_SHADE, half) == half, fixed_pixel(half)
 (True, None)
 """),
+    ("layers", """
+>>> from paintershouse.layers import add_above, flattened, grouped, names_of, seen
+>>> red, blue, none = (15, 0, 0, 15), (0, 0, 15, 15), (0, 0, 0, 0)
+>>> look = (1, "plain", 15, ())
+>>> document = (2, 1, (("paint", "low", look, ((red, red),)), ("paint", "top", (1, "plain", 8, ((15, 0),)), ((blue, blue),))))
+>>> seen(document), names_of(grouped(document, "top", "all"))
+((((7, 0, 8, 15), (15, 0, 0, 15)),), ['low', 'all', 'top'])
+>>> seen(flattened(grouped(document, "top", "all"), "all")) == seen(grouped(document, "top", "all"))
+True
+>>> seen(add_above(document, "", ("paint", "under", look, ((blue, blue),)))) == seen(document)
+True
+"""),
+    ("tiles", """
+>>> from paintershouse.tiles import asks_of, tile_points, tiles_in, tiles_of
+>>> tiles_of(5, 3, 2), tile_points(5, 3, 2, (2, 1)), tiles_in(5, 3, 2, (3, -1, 9, 2))
+([(0, 0), (1, 0), (2, 0), (0, 1), (1, 1), (2, 1)], [(4, 2)], [(1, 0), (2, 0)])
+>>> asks_of(5, 3, 2, [(0, 0, 2, 2), (1, 0, 2, 3)])
+((0, 0, 1, 3, 4), (4, 4, 4, 2, 2))
+"""),
+    ("sight", """
+>>> from paintershouse.sight import Sight, has_there, touched
+>>> red, blue = (15, 0, 0, 15), (0, 0, 15, 15)
+>>> look = (1, "plain", 15, ())
+>>> document = (3, 1, (("paint", "low", look, ((red, red, red),)),))
+>>> other = (3, 1, (("paint", "low", look, ((red, red, blue),)), ("paint", "off", (0, "times", 9, ()), ((red, red, red),))))
+>>> has_there(other, (2, 0)), touched(document, other, 1)
+((('paint', 'plain', 15, (0, 0, 15, 15)),), [(2, 0)])
+>>> sight = Sight(document, 2)
+>>> sight.look((0, 0, 1, 1)), sight.work(), sight.exchange(other), sight.made(), sight.look((1, 0, 2, 1)), sight.work()
+((((15, 0, 0, 15),),), 2, None, [(0, 0)], (((15, 0, 0, 15), (0, 0, 15, 15)),), 3)
+"""),
+    ("smaller", """
+>>> from paintershouse.smaller import mean_of, smaller
+>>> mean_of([(15, 0, 0, 15), (0, 0, 0, 0)]), mean_of([(10, 0, 0, 3), (0, 10, 0, 6)]), smaller(((red, blue, red),), 2)
+((15, 0, 0, 8), (3, 7, 0, 5), (((8, 0, 8, 15), (15, 0, 0, 15)),))
+"""),
+    ("shelf", """
+>>> from paintershouse.shelf import best_plan, best_prices, bound_of, least_work, plan_work
+>>> asks, costs = (1, 2, 3, 1, 2), (5, 3, 1, 5, 3)
+>>> least_work(asks, costs, 1), least_work(asks, costs, 2), least_work(asks, costs, 3)
+(17, 12, 9)
+>>> plan_work(asks, costs, 2, (1, 0, 0, 0, 0)), bound_of(asks, costs, 2, (0, 3, 0, 0, 0)), bound_of(asks, costs, 2, (0, 0, 3, 0, 0))
+(12, 9, 12)
+"""),
+    ("bits", """
+>>> from paintershouse.bits import BitReader, check_bits, gamma, number_bits, pixel_bits
+>>> number_bits(5, 4), gamma(5), pixel_bits((1, 2, 3, 4)), check_bits("1"), check_bits("")
+('0101', '00101', '0100000100100011', '00000111', '00000000')
+>>> reader = BitReader("0010100001")
+>>> reader.gamma(), reader.pixel(), reader.left()
+(5, (0, 0, 0, 0), 1)
+"""),
+    ("leastcodes", """
+>>> from paintershouse.leastcodes import codes_of, judge_tree, least_lengths, total_of, tree_paper
+>>> least_lengths((5, 1, 2)), total_of((5, 1, 2), (1, 2, 2)), codes_of((1, 2, 2))
+((1, 2, 2), 11, ('0', '10', '11'))
+>>> tree_paper((5, 1, 2)), judge_tree((5, 1, 2), (1, 2, 2), tree_paper((5, 1, 2)))
+(((5, -1, -1), (1, -1, -1), (2, -1, -1), (3, 1, 2), (8, 3, 0)), True)
+"""),
+    ("guesses", """
+>>> from paintershouse.guesses import best_guesses, folded, guessed, pass_points, unfolded
+>>> [folded(d) for d in (0, -1, 1, 15, -8, 8)], unfolded(15), guessed(4, (3, 3, 3, 3), (5, 2, 9, 0), (4, 4, 4, 4))
+([0, 1, 2, 1, 15, 15], -8, (4, 2, 9, 0))
+>>> pass_points(9, 3, 0), pass_points(9, 3, 1), best_guesses((((1, 1, 1, 1), (1, 1, 1, 1)), ((1, 1, 1, 1), (1, 1, 1, 1))))
+([(0, 0), (8, 0)], [(4, 0)], [1, 2])
+"""),
 ]
 
 

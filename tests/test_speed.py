@@ -1,4 +1,4 @@
-"""Regions of 24 by 24 points, and rows of 40 deeds, are answered within seconds."""
+"""What is as large as the document lets it be is answered within seconds."""
 
 import time
 import unittest
@@ -6,9 +6,15 @@ import unittest
 from paintershouse.deeds import done_all, flood_region
 from paintershouse.distances import field, gap, within
 from paintershouse.flooding import flooded
+from paintershouse.guesses import best_guesses
+from paintershouse.layers import seen
+from paintershouse.leastcodes import codes_of, judge_tree, least_lengths, total_of, tree_paper
 from paintershouse.outlines import from_outlines, length_of, outlines
 from paintershouse.rectangles import chords, crossing_paper, fewest_rectangles, judge_cut, least_by
 from paintershouse.shades import behind, shade_of
+from paintershouse.shelf import best_plan, best_prices, bound_of, least_work, plan_work
+from paintershouse.sight import Sight
+from paintershouse.smaller import smaller
 from paintershouse.strokes import stroke_region
 from tests.making import Maker, plain_region
 
@@ -74,6 +80,35 @@ class SpeedTests(unittest.TestCase):
         shade = shade_of(("erase", (), 1))
         for _ in range(40):
             shade = self.timed(behind, shade, self.timed(shade_of, ("fill", (), (3, 9, 15, 8), "screen", 7)))
+
+    def test_sixty_asks_with_eight_places(self):
+        maker = Maker(27)
+        for pieces in (9, 13, 30, 100):
+            asks = tuple(maker.number(0, pieces - 1) for _ in range(60))
+            costs = tuple(piece * 97 % 10000 for piece in asks)
+            plan, prices = self.timed(best_plan, asks, costs, 8), self.timed(best_prices, asks, costs, 8)
+            work = self.timed(least_work, asks, costs, 8)
+            self.assertEqual(self.timed(plan_work, asks, costs, 8, plan), work)
+            self.assertEqual(self.timed(bound_of, asks, costs, 8, prices), work)
+
+    def test_counts_of_600_signs(self):
+        maker = Maker(28)
+        for counts in ((1,) * 600, tuple(range(1, 601)), tuple(maker.number(1, 600) for _ in range(600))):
+            lengths, paper = self.timed(least_lengths, counts), self.timed(tree_paper, counts)
+            self.assertIs(self.timed(judge_tree, counts, lengths, paper), True)
+            self.timed(total_of, counts, lengths)
+            self.assertEqual(len(self.timed(codes_of, lengths)), 600)
+        self.timed(codes_of, tuple(range(1, 600)) + (599,))
+
+    def test_great_sights(self):
+        maker = Maker(29)
+        document, other = (maker.document(24, 24, 24) for _ in range(2))
+        sight = Sight(document, 1)
+        self.timed(sight.look, (0, 0, 24, 24))
+        self.timed(sight.exchange, other)
+        self.timed(sight.look, (0, 0, 24, 24))
+        self.timed(smaller, seen(document), 8)
+        self.timed(best_guesses, seen(document))
 
 
 if __name__ == "__main__":

@@ -4,8 +4,8 @@ import copy
 import unittest
 
 from paintershouse import (
-    deeds, distances, errors, flooding, grown, outlines, parts, pictures, pixels, rectangles, regions, shades, strokes,
-    texts,
+    bits, deeds, distances, errors, flooding, grown, guesses, layers, leastcodes, outlines, parts, pictures, pixels,
+    rectangles, regions, shades, shelf, sight, smaller, strokes, texts, tiles,
 )
 from tests.making import Maker
 
@@ -24,6 +24,11 @@ DEEDS = (
     ("move", 1, -1), ("flip",), ("fall",), ("copy", RING, 1, 0), ("mean", RING, 2), ("swell", RING, 1),
     ("flood", (0, 0)) + PAINT + (2,),
 )
+LOOK = (1, "plain", 15, ())
+LAYER = ("paint", "low", LOOK, PICTURE)
+GROUP = ("group", "all", (1, "times", 9, ((1, 2, 3), (4, 5, 6))), (LAYER, ("tone", "tone", LOOK, TABLES)))
+DOCUMENT = (3, 2, (("paint", "under", LOOK, OTHER), GROUP))
+ASKS, COSTS = (1, 2, 3, 1, 2), (5, 3, 1, 5, 3)
 
 # A function, its arguments, and the kind of its result.
 CALLS = [
@@ -71,6 +76,28 @@ CALLS = [
     (shades.behind, (shades.shade_of(DEEDS[0]), shades.shade_of(DEEDS[1])), tuple),
     (shades.fixed_pixel, (shades.shade_of(("erase", (), 15)),), tuple),
     (shades.fixed_pixel, (shades.PLAIN_SHADE,), None),
+    (layers.check_document, (DOCUMENT,), None), (layers.seen, (DOCUMENT,), tuple),
+    (layers.over_all, (PICTURE, DOCUMENT[2]), tuple), (layers.names_of, (DOCUMENT,), list),
+    (layers.layer, (DOCUMENT, "tone"), tuple), (layers.remove, (DOCUMENT, "low"), tuple),
+    (layers.add_above, (DOCUMENT, "low", ("paint", "more", LOOK, OTHER)), tuple),
+    (layers.replace, (DOCUMENT, "all", ("paint", "more", LOOK, OTHER)), tuple),
+    (layers.look_of, (DOCUMENT, "all", LOOK), tuple), (layers.grouped, (DOCUMENT, "all", "more"), tuple),
+    (layers.flattened, (DOCUMENT, "all"), tuple),
+    (tiles.tiles_of, (5, 3, 2), list), (tiles.tile_points, (5, 3, 2, (1, 1)), list),
+    (tiles.tiles_in, (5, 3, 2, (3, -1, 9, 2)), list), (tiles.asks_of, (5, 3, 2, [(0, 0, 2, 2), (1, 0, 2, 3)]), tuple),
+    (sight.has_there, (DOCUMENT, (2, 1)), tuple), (sight.touched, (DOCUMENT, (3, 2, (LAYER,)), 1), list),
+    (smaller.mean_of, ([RED, NONE, (1, 2, 3, 4)],), tuple), (smaller.smaller, (PICTURE, 2), tuple),
+    (shelf.least_work, (ASKS, COSTS, 2), int), (shelf.best_plan, (ASKS, COSTS, 2), tuple),
+    (shelf.best_prices, (ASKS, COSTS, 2), tuple), (shelf.plan_work, (ASKS, COSTS, 2, (1, 0, 0, 0, 0)), int),
+    (shelf.bound_of, (ASKS, COSTS, 2, (0, 3, 0, 0, 0)), int),
+    (bits.number_bits, (5, 4), str), (bits.gamma, (5,), str), (bits.pixel_bits, (RED,), str),
+    (bits.check_bits, ("10110",), str),
+    (leastcodes.least_lengths, ((5, 1, 2),), tuple), (leastcodes.total_of, ((5, 1, 2), (1, 2, 2)), int),
+    (leastcodes.tree_paper, ((5, 1, 2),), tuple), (leastcodes.codes_of, ((1, 2, 2),), tuple),
+    (leastcodes.judge_tree, ((5, 1, 2), (1, 2, 2), leastcodes.tree_paper((5, 1, 2))), bool),
+    (leastcodes.judge_tree, ((5, 1, 2), (1, 2, 2), ()), bool),
+    (guesses.folded, (-3,), int), (guesses.unfolded, (5,), int), (guesses.guessed, (4, RED, NONE, RED), tuple),
+    (guesses.best_guesses, (PICTURE,), list), (guesses.pass_points, (9, 3, 2), list),
 ]
 CALLS += [(deeds.check_deed, (deed,), None) for deed in DEEDS]
 CALLS += [(deeds.done, (PICTURE, deed), tuple) for deed in DEEDS]
