@@ -110,6 +110,40 @@ def pixel_over(below, layers, point):
     return pixel
 
 
+def layers_there(layers, point, opens):
+    """Returns what layers that are shown have at a point, told by their kinds, modes, levels, and what is there.
+
+    A layer with a name among the open ones has the kind `unknown`, and the index of its name there.
+    """
+    there = []
+    for kind, name, look, content in layers:
+        if look[0] == 0:
+            continue
+        if name in opens:
+            kind, inner = "unknown", opens.index(name)
+        elif kind == "paint":
+            inner = content[point[1]][point[0]]
+        elif kind == "group":
+            inner = layers_there(content, point, opens)
+        else:
+            inner = content
+        there.append((kind, look[1], level_at(look, point), inner))
+    return tuple(there)
+
+
+def pixel_told(there, pixels):
+    """Returns the pixel that is seen, by what layers have at a point, and the pixels of the open ones."""
+    pixel = CLEAR
+    for kind, mode, level, inner in there:
+        if kind == "tone":
+            pixel = toned_at(pixel, inner, level)
+        elif kind == "group":
+            pixel = blended(mode, pixel, pixel_told(inner, pixels), level)
+        else:
+            pixel = blended(mode, pixel, pixels[inner] if kind == "unknown" else inner, level)
+    return pixel
+
+
 def over_all(below, layers):
     """Returns what is seen of layers above a picture."""
     wide, high = size_of(below)

@@ -1,7 +1,7 @@
 """Sights: what is seen of documents, made tile by tile and kept."""
 
 from paintershouse.errors import NotAllowed
-from paintershouse.layers import level_at, pixel_over
+from paintershouse.layers import layers_there, pixel_over
 from paintershouse.pixels import CLEAR
 from paintershouse.regions import is_within
 from paintershouse.tiles import check_side, tile_points, tiles_in, tiles_of
@@ -11,23 +11,7 @@ def has_there(document, point):
     """Returns what a document has at a point."""
     if not is_within(document[:2], point):
         raise NotAllowed("not a point of the document")
-    return _layers_there(document[2], point)
-
-
-def _layers_there(layers, point):
-    """Returns what layers that are shown have at a point."""
-    there = []
-    for kind, _, look, content in layers:
-        if look[0] == 0:
-            continue
-        if kind == "paint":
-            inner = content[point[1]][point[0]]
-        elif kind == "group":
-            inner = _layers_there(content, point)
-        else:
-            inner = content
-        there.append((kind, look[1], level_at(look, point), inner))
-    return tuple(there)
+    return layers_there(document[2], point, ())
 
 
 def touched(first, second, side):

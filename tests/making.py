@@ -93,6 +93,35 @@ class Maker:
             return (word, region, self.number(-wide, wide), self.number(-high, high))
         return (word, region, self.number(1, 3))
 
+    def plain_row(self, wide, high, many):
+        """Returns a plain row of so many deeds, of which few hide what was there."""
+        words = ["erase", "tone", "fill", "stroke", "move", "flip", "fall", "copy", "erase", "copy"]
+        if wide == high:
+            words.append("turn")
+        deeds = [self.deed(self.one_of(words), wide, high) for _ in range(many)]
+        return tuple(self.softer(deed, wide, high) for deed in deeds)
+
+    def softer(self, deed, wide, high):
+        """Returns a deed; most moves go nowhere, most tables have each level once, most fills are half seen."""
+        if deed[0] == "move" and self.number(0, 2):
+            return self.one_of((("move", 0, 0), ("flip",), ("fall",)))
+        if deed[0] == "tone" and self.number(0, 2):
+            return ("tone", deed[1], self.shuffled_tables())
+        if deed[0] in ("fill", "stroke") and self.number(0, 1):
+            return deed[:-1] + (self.number(0, 8),)
+        return deed
+
+    def shuffled_tables(self):
+        """Returns four tables that have each level once, and keep the cover 0."""
+        tables = []
+        for k in range(4):
+            levels = list(range(16))
+            for _ in range(self.number(0, 6)):
+                one, other = self.number(k // 3, 15), self.number(k // 3, 15)
+                levels[one], levels[other] = levels[other], levels[one]
+            tables.append(tuple(levels))
+        return tuple(tables)
+
     def mask(self, wide, high):
         """Returns a mask, the empty one among them."""
         if self.number(0, 2):
@@ -124,6 +153,14 @@ class Maker:
     def document(self, wide, high, many):
         """Returns a document with so many layers."""
         return (wide, high, self.layers(wide, high, NAMES[:many], 4))
+
+
+GREYS = [(0, 0, 0, 0)] + [(level, level, level, cover) for cover in range(1, 16) for level in range(16)]
+
+
+def dot(wide, high, point, pixel):
+    """Returns the picture that is clear but for one pixel."""
+    return tuple(tuple(pixel if (x, y) == point else (0, 0, 0, 0) for x in range(wide)) for y in range(high))
 
 
 def plain_region(points):

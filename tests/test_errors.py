@@ -29,9 +29,19 @@ INTERFACE = {
     "strokes": ["check_path", "check_brush", "line_points", "stroke_region"],
     "deeds": ["check_deed", "check_row", "flood_region", "done", "done_all"],
     "shades": ["shade_of", "shaded", "behind", "fixed_pixel"],
+    "forms": ["check_plain", "form_of", "drawn_by", "form_behind", "least_picture"],
+    "exchange": ["conflict", "may_exchange", "one_deed", "needless", "least_part"],
+    "footprints": ["footprint", "touched", "are_apart"],
+    "forgetting": ["kept_points", "twins", "are_twins", "undoing"],
+    "menus": ["least_of_menu", "layers_paper", "judge_layers"],
     "layers": [
         "check_document", "seen", "over_all", "names_of", "layer", "add_above", "remove", "replace", "look_of",
         "grouped", "flattened",
+    ],
+    "opened": ["check_open", "filled", "pixel_seen"],
+    "forall": [
+        "same_for_all", "judge_difference", "hidden_points", "sight_paper", "exchanged_above", "dissolved",
+        "may_exchange", "may_dissolve", "joined_above",
     ],
     "tiles": ["tiles_of", "tile_points", "tiles_in", "asks_of"],
     "sight": ["has_there", "touched", "Sight"],
@@ -68,6 +78,8 @@ CONSTANTS = {
     "shades": {
         "PLAIN_SHADE": (tuple(range(16)), (((0,) * 16,) + (tuple(range(16)),) * 15,) * 3),
     },
+    "exchange": {"MAX_PARTS": 10},
+    "menus": {"MAX_MENU": 6, "MAX_STEPS": 5, "MAX_FORMS": 200},
     "layers": {"MAX_ITEMS": 24, "MAX_NESTED": 4, "MAX_WORD": 8, "KINDS": ("paint", "group", "tone")},
     "smaller": {"MAX_SMALLER": 8},
     "shelf": {"MAX_ASKS": 60, "MAX_PIECE": 99, "MAX_PLACES": 8},

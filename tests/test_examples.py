@@ -5,6 +5,8 @@ import re
 import unittest
 from pathlib import Path
 
+from paintershouse import errors
+
 # The examples of one file go on with the names of those ahead of it.
 EXAMPLES = [
     ("pixels", """
@@ -102,6 +104,43 @@ True
 >>> behind(PLAIN_SHADE, half) == half, fixed_pixel(half)
 (True, None)
 """),
+    ("forms", """
+>>> from paintershouse.forms import drawn_by, form_of, least_picture
+>>> form_of((2, 1), (("flip",),))[1], form_of((2, 1), (("move", 1, 0),))[1]
+((((1, 0, 0), (0, 0, 0)),), (((0, 0, 0, 0), (0, 0, 0)),))
+>>> form_of((2, 2), (("flip",), ("fall",))) == form_of((2, 2), (("turn",), ("turn",))), least_picture((2, 1), (("flip",),), ())
+(True, (((0, 0, 0, 0), (0, 0, 0, 1)),))
+"""),
+    ("exchange", """
+>>> from paintershouse.exchange import conflict, least_part, may_exchange, needless, one_deed
+>>> left, right = ("erase", ((0, 0, 0),), 15), ("erase", ((0, 1, 1),), 15)
+>>> may_exchange((2, 1), (left,), (right,)), conflict((2, 1), (left,), (("flip",),)), one_deed((2, 1), (left, ("flip",), right, ("flip",)))
+(True, ((0, 0, 1),), ('tone', ((0, 0, 0),), ((0, 0, 0, 0, 0, 0, 0, 0, 0, 0, 0, 0, 0, 0, 0, 0), (0, 0, 0, 0, 0, 0, 0, 0, 0, 0, 0, 0, 0, 0, 0, 0), (0, 0, 0, 0, 0, 0, 0, 0, 0, 0, 0, 0, 0, 0, 0, 0), (0, 0, 0, 0, 0, 0, 0, 0, 0, 0, 0, 0, 0, 0, 0, 0))))
+>>> needless((2, 1), (left, left, right)), least_part((2, 1), (left, ("flip",), left, ("flip",), right))
+([0, 1], (0, 4))
+"""),
+    ("footprints", """
+>>> from paintershouse.footprints import are_apart, footprint, touched
+>>> soft = ("mean", ((0, 1, 1),), 1)
+>>> footprint((4, 1), (soft, ("move", 1, 0)), (2, 0)), touched((4, 1), (soft,)), are_apart((4, 1), (soft,), (("erase", ((0, 3, 3),), 4),))
+(((0, 0, 2),), ((0, 1, 1),), True)
+"""),
+    ("forgetting", """
+>>> from paintershouse.forgetting import are_twins, kept_points, twins, undoing
+>>> kept_points((2, 1), (("move", 1, 0),)), undoing((2, 2), (("turn",), ("flip",)))
+(((0, 0, 0),), (('flip',), ('turn',), ('turn',), ('turn',)))
+>>> one, other = twins((2, 1), (("move", 1, 0),))
+>>> are_twins((2, 1), (("move", 1, 0),), one, other)
+True
+"""),
+    ("menus", """
+>>> from paintershouse.menus import judge_layers, layers_paper, least_of_menu
+>>> menu = (("flip",), ("fall",), ("turn",))
+>>> least_of_menu((2, 2), menu, (("turn",), ("turn",)), 3), least_of_menu((2, 2), menu, (("turn",), ("turn",), ("turn",)), 3)
+((0, 1), (0, 1, 2))
+>>> judge_layers((2, 2), menu, (("turn",), ("turn",)), layers_paper((2, 2), menu, 1)), judge_layers((2, 2), menu, (("turn",),), layers_paper((2, 2), menu, 1))
+(True, False)
+"""),
     ("layers", """
 >>> from paintershouse.layers import add_above, flattened, grouped, names_of, seen
 >>> red, blue, none = (15, 0, 0, 15), (0, 0, 15, 15), (0, 0, 0, 0)
@@ -113,6 +152,25 @@ True
 True
 >>> seen(add_above(document, "", ("paint", "under", look, ((blue, blue),)))) == seen(document)
 True
+"""),
+    ("opened", """
+>>> from paintershouse.opened import filled, pixel_seen
+>>> red, blue, none = (15, 0, 0, 15), (0, 0, 15, 15), (0, 0, 0, 0)
+>>> look = (1, "plain", 15, ())
+>>> document = (2, 1, (("paint", "low", look, ((red, red),)), ("paint", "top", (1, "plain", 15, ((15, 0),)), ((blue, blue),))))
+>>> pixel_seen(document, ("low",), (0, 0), (red,)), pixel_seen(document, ("low", "top"), (1, 0), (blue, red))
+((0, 0, 15, 15), (0, 0, 15, 15))
+>>> filled(document, ("top",), (((none, none),),))[2][1][3]
+(((0, 0, 0, 0), (0, 0, 0, 0)),)
+"""),
+    ("forall", """
+>>> from paintershouse.forall import hidden_points, joined_above, may_exchange, same_for_all, sight_paper
+>>> hidden_points(document, ("low",), "low"), hidden_points(document, ("low", "top"), "top"), may_exchange(document, ("low",), "low")
+([(0, 0)], [(1, 0)], False)
+>>> same_for_all(document, joined_above(document, "low"), ())
+raises NotAllowed
+>>> joined_above(document, "low")[2]
+(('paint', 'low', (1, 'plain', 15, ()), (((0, 0, 15, 15), (15, 0, 0, 15)),)),)
 """),
     ("tiles", """
 >>> from paintershouse.tiles import asks_of, tile_points, tiles_in, tiles_of
@@ -193,6 +251,10 @@ class ExamplesTests(unittest.TestCase):
     def run_example(self, example, names):
         if not example.want:
             exec(example.source, names)
+            return
+        if example.want.startswith("raises "):
+            error = getattr(errors, example.want.split()[1])
+            self.assertRaises(error, eval, example.source, names)
             return
         answer = eval(example.source, names)
         # The names of colours stand in written answers, too.

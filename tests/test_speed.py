@@ -5,10 +5,17 @@ import unittest
 
 from paintershouse.deeds import done_all, flood_region
 from paintershouse.distances import field, gap, within
+from paintershouse.errors import TooLarge
+from paintershouse.exchange import conflict, least_part, needless
 from paintershouse.flooding import flooded
+from paintershouse.footprints import are_apart, footprint, touched
+from paintershouse.forall import hidden_points, may_dissolve, may_exchange, same_for_all
+from paintershouse.forgetting import twins, undoing
+from paintershouse.forms import drawn_by, form_of, least_picture
 from paintershouse.guesses import best_guesses
-from paintershouse.layers import seen
+from paintershouse.layers import add_above, grouped, remove, seen
 from paintershouse.leastcodes import codes_of, judge_tree, least_lengths, total_of, tree_paper
+from paintershouse.menus import layers_paper, least_of_menu
 from paintershouse.outlines import from_outlines, length_of, outlines
 from paintershouse.rectangles import chords, crossing_paper, fewest_rectangles, judge_cut, least_by
 from paintershouse.shades import behind, shade_of
@@ -16,7 +23,7 @@ from paintershouse.shelf import best_plan, best_prices, bound_of, least_work, pl
 from paintershouse.sight import Sight
 from paintershouse.smaller import smaller
 from paintershouse.strokes import stroke_region
-from tests.making import Maker, plain_region
+from tests.making import MODES, NAMES, Maker, plain_region
 
 SECONDS = 5
 GRID = [(x, y) for x in range(24) for y in range(24)]
@@ -34,11 +41,14 @@ def great_regions():
 
 
 class SpeedTests(unittest.TestCase):
-    def timed(self, call, *told):
+    def timed(self, call, *told, seconds=SECONDS):
         start = time.perf_counter()
         answer = call(*told)
-        self.assertLess(time.perf_counter() - start, SECONDS, call.__name__)
+        self.assertLess(time.perf_counter() - start, seconds, call.__name__)
         return answer
+
+    def timed_minute(self, call, *told):
+        return self.timed(call, *told, seconds=60)
 
     def test_great_regions(self):
         full = plain_region(set(GRID))
@@ -80,6 +90,53 @@ class SpeedTests(unittest.TestCase):
         shade = shade_of(("erase", (), 1))
         for _ in range(40):
             shade = self.timed(behind, shade, self.timed(shade_of, ("fill", (), (3, 9, 15, 8), "screen", 7)))
+
+    def test_forms_of_rows_of_forty_deeds(self):
+        maker = Maker(31)
+        sides = (24, 24)
+        soft = tuple(("erase", maker.region(24, 24), maker.number(1, 3)) for _ in range(40))
+        for deeds in (maker.plain_row(24, 24, 40), soft):
+            form = self.timed_minute(form_of, sides, deeds)
+            picture = maker.picture(24, 24)
+            self.assertEqual(drawn_by(form, picture), done_all(picture, deeds))
+            self.timed_minute(least_picture, sides, deeds, ())
+            self.timed_minute(conflict, sides, deeds, soft[:5] + (("flip",),))
+            self.timed_minute(needless, sides, deeds)
+            self.timed_minute(least_part, sides, deeds[:10])
+            self.timed_minute(twins, sides, deeds)
+            self.timed_minute(are_apart, sides, deeds, soft)
+        self.timed_minute(touched, sides, (("mean", plain_region(set(GRID)), 3),) * 40)
+        self.timed_minute(footprint, sides, (("mean", plain_region(set(GRID)), 3),) * 40, (3, 3))
+        self.timed_minute(undoing, sides, (("flip",),) * 40)
+        menu = (("flip",), ("fall",), ("turn",), ("move", 1, 0), ("move", 0, 1), soft[0])
+        self.timed_minute(layers_paper, sides, menu[:4], 5)
+        self.assertRaises(TooLarge, self.timed_minute, least_of_menu, sides, menu, soft, 5)
+
+    def full_document(self, maker, wide, high):
+        """A document of 24 layers, all of them shown and masked."""
+        made = []
+        for k in range(24):
+            mask = tuple(tuple(maker.number(1, 15) for _ in range(wide)) for _ in range(high))
+            look = (1, maker.one_of(MODES), 15, mask)
+            if k % 6 == 5:
+                made.append(("tone", NAMES[k], look, maker.shuffled_tables()))
+            else:
+                made.append(("paint", NAMES[k], look, maker.picture(wide, high)))
+        return (wide, high, tuple(made))
+
+    def test_documents_of_24_layers_for_all_pictures(self):
+        maker = Maker(32)
+        for sides, opens in (((24, 24), ("aa",)), ((4, 4), ("aa", "ac")), ((2, 2), ("ac", "av"))):
+            document = self.full_document(maker, *sides)
+            for name in opens:
+                self.timed_minute(hidden_points, document, opens, name)
+            other = remove(document, "aw")
+            same = add_above(other, "av", ("paint", "zz", (1, "times", 0, ()), maker.picture(*sides)))
+            self.assertEqual(self.timed_minute(same_for_all, other, same, opens), ("same", ()))
+            self.timed_minute(same_for_all, document, same, opens)
+            self.timed_minute(may_exchange, document, opens, "aa")
+            # At the very bottom nothing is below a group that its layers could change.
+            self.assertIs(self.timed_minute(may_dissolve, grouped(other, "aa", "zz"), opens, "zz"), True)
 
     def test_sixty_asks_with_eight_places(self):
         maker = Maker(27)

@@ -4,8 +4,9 @@ import copy
 import unittest
 
 from paintershouse import (
-    bits, deeds, distances, errors, flooding, grown, guesses, layers, leastcodes, outlines, parts, pictures, pixels,
-    rectangles, regions, shades, shelf, sight, smaller, strokes, texts, tiles,
+    bits, deeds, distances, errors, exchange, flooding, footprints, forall, forgetting, forms, grown, guesses, layers,
+    leastcodes, menus, opened, outlines, parts, pictures, pixels, rectangles, regions, shades, shelf, sight, smaller,
+    strokes, texts, tiles,
 )
 from tests.making import Maker
 
@@ -28,6 +29,13 @@ LOOK = (1, "plain", 15, ())
 LAYER = ("paint", "low", LOOK, PICTURE)
 GROUP = ("group", "all", (1, "times", 9, ((1, 2, 3), (4, 5, 6))), (LAYER, ("tone", "tone", LOOK, TABLES)))
 DOCUMENT = (3, 2, (("paint", "under", LOOK, OTHER), GROUP))
+OTHER_DOCUMENT = layers.remove(DOCUMENT, "tone")
+OPENS = ("under", "low")
+PAPER_OF_DIFFERENCE = ((0, 0), (RED, RED))
+PLAIN_DEEDS, SIDES = DEEDS[:4] + DEEDS[5:8], (3, 2)
+MENU = (("flip",), ("fall",))
+FORM = forms.form_of(SIDES, DEEDS[:2])
+TONE = ("tone", RING, (tuple(range(15, -1, -1)),) * 3 + (tuple(range(16)),))
 ASKS, COSTS = (1, 2, 3, 1, 2), (5, 3, 1, 5, 3)
 
 # A function, its arguments, and the kind of its result.
@@ -76,6 +84,26 @@ CALLS = [
     (shades.behind, (shades.shade_of(DEEDS[0]), shades.shade_of(DEEDS[1])), tuple),
     (shades.fixed_pixel, (shades.shade_of(("erase", (), 15)),), tuple),
     (shades.fixed_pixel, (shades.PLAIN_SHADE,), None),
+    (forms.check_plain, (SIDES, PLAIN_DEEDS), None), (forms.form_of, (SIDES, PLAIN_DEEDS), tuple),
+    (forms.drawn_by, (FORM, PICTURE), tuple), (forms.form_behind, (FORM, FORM), tuple),
+    (forms.least_picture, (SIDES, PLAIN_DEEDS, MENU), tuple),
+    (exchange.conflict, (SIDES, PLAIN_DEEDS, MENU), tuple), (exchange.may_exchange, (SIDES, PLAIN_DEEDS, MENU), bool),
+    (exchange.one_deed, (SIDES, DEEDS[2:3]), tuple), (exchange.needless, (SIDES, MENU + MENU), list),
+    (exchange.least_part, (SIDES, PLAIN_DEEDS), tuple),
+    (footprints.footprint, (SIDES, DEEDS, (1, 1)), tuple), (footprints.touched, (SIDES, DEEDS), tuple),
+    (footprints.are_apart, (SIDES, DEEDS, MENU), bool),
+    (forgetting.kept_points, (SIDES, PLAIN_DEEDS), tuple), (forgetting.twins, (SIDES, PLAIN_DEEDS), tuple),
+    (forgetting.are_twins, (SIDES, PLAIN_DEEDS, PICTURE, OTHER), bool), (forgetting.undoing, (SIDES, MENU + (TONE,)), tuple),
+    (menus.least_of_menu, (SIDES, MENU, MENU[::-1], 3), tuple), (menus.layers_paper, (SIDES, MENU, 2), tuple),
+    (menus.judge_layers, (SIDES, MENU, PLAIN_DEEDS, menus.layers_paper(SIDES, MENU, 2)), bool),
+    (opened.check_open, (DOCUMENT, OPENS), None), (opened.filled, (DOCUMENT, OPENS, (PICTURE, OTHER)), tuple),
+    (opened.pixel_seen, (DOCUMENT, OPENS, (1, 1), (RED, NONE)), tuple),
+    (forall.same_for_all, (DOCUMENT, OTHER_DOCUMENT, OPENS), tuple),
+    (forall.judge_difference, (DOCUMENT, OTHER_DOCUMENT, OPENS, PAPER_OF_DIFFERENCE), bool),
+    (forall.hidden_points, (DOCUMENT, OPENS, "low"), list), (forall.sight_paper, (DOCUMENT, OPENS, "low", (1, 1)), tuple),
+    (forall.exchanged_above, (DOCUMENT, "low"), tuple), (forall.dissolved, (DOCUMENT, "all"), tuple),
+    (forall.may_exchange, (DOCUMENT, OPENS, "low"), bool), (forall.may_dissolve, (DOCUMENT, OPENS, "all"), bool),
+    (forall.joined_above, ((3, 2, (LAYER, ("paint", "top", LOOK, OTHER))), "low"), tuple),
     (layers.check_document, (DOCUMENT,), None), (layers.seen, (DOCUMENT,), tuple),
     (layers.over_all, (PICTURE, DOCUMENT[2]), tuple), (layers.names_of, (DOCUMENT,), list),
     (layers.layer, (DOCUMENT, "tone"), tuple), (layers.remove, (DOCUMENT, "low"), tuple),
