@@ -53,9 +53,7 @@ def _tone_of(form):
     told = told_entries(form)
     points = [point for point in told if told[point] != (point, PLAIN_SHADE)]
     entry = told[points[0]] if points else CLEAR
-    if entry == CLEAR:
-        tables = ((0,) * 16,) * 4
-    elif len(entry) == 4:
+    if len(entry) == 4:
         tables = tuple([(level,) * 16 for level in entry])
     else:
         tables = _tables_of(entry[1])
@@ -67,13 +65,12 @@ def _tables_of(shade):
     covers, tables = shade
     told = []
     for table in tables:
-        levels = [0] * 16
-        if covers[0] > 0:
-            levels[0] = table[0][0]
+        # Of a clear pixel the colours are 0; all other levels are told by pixels that cover.
+        levels = (table[0][0],) + (0,) * 15
         for cover in range(1, 16):
             if covers[cover] > 0:
                 levels = table[cover]
-        told.append(tuple(levels))
+        told.append(levels)
     return (told[0], told[1], told[2], covers)
 
 

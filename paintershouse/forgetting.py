@@ -34,7 +34,7 @@ def twins(sides, deeds):
     for point in points_of(wide, high):
         made = tuple(sorted(shades.get(point, {})))
         if made not in known:
-            known[made] = _same_pixels(made)
+            known[made] = pixels_made_same(made)
         if known[made]:
             one, other = known[made]
             return (_with_dot(sides, point, one), _with_dot(sides, point, other))
@@ -47,9 +47,9 @@ def _with_dot(sides, point, pixel):
     return tuple([tuple([pixel if (x, y) == point else CLEAR for x in range(wide)]) for y in range(high)])
 
 
-def _same_pixels(shades):
+def pixels_made_same(shades):
     """Returns a pair of different pixels of which each shade makes the same, or the empty tuple."""
-    levels = [[_levels_behind(shades, k, cover) for k in range(3)] for cover in range(16)]
+    levels = _all_levels(shades)
     for cover in range(16):
         for k in range(3):
             for same in levels[cover][k].values():
@@ -64,6 +64,11 @@ def _same_pixels(shades):
                     one, other = tuple([pair[0] for pair in pairs]), tuple([pair[1] for pair in pairs])
                     return (one + (first,), other + (second,))
     return ()
+
+
+def _all_levels(shades):
+    """Returns, for each cover, a list of what shades make together of the levels of each colour."""
+    return [[_levels_behind(shades, k, cover) for k in range(3)] for cover in range(16)]
 
 
 def _levels_behind(shades, k, cover):

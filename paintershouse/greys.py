@@ -10,7 +10,7 @@ for each pair of them, a place; and the code at each place. For no open layer
 there is one place alone.
 """
 
-from paintershouse.pixels import CLEAR, mixed, put_together, scaled
+from paintershouse.pixels import mixed, put_together, scaled
 
 MANY_CODES = 256
 
@@ -22,8 +22,6 @@ def grey_codes():
 
 def grey_pixel(code):
     """Returns the grey pixel with a code."""
-    if code == 0:
-        return CLEAR
     level = code & 15
     return (level, level, level, code >> 4)
 

@@ -134,6 +134,9 @@ class OneDeedTests(unittest.TestCase):
                 (("tone", region, (KEEP, KEEP, KEEP, (5,) + (0,) * 15)),), (("fill", region, CLEAR, "plain", 15),),
                 (("tone", region, ((7,) * 16,) * 3 + ((5,) + (0,) * 15,)),),
                 (("copy", region, 1, 0),), (("erase", region, 4), ("erase", region, 4)),
+                (("tone", region, (KEEP[::-1], KEEP, (7,) * 16, (0, 1) + (0,) * 14)),),
+                (("tone", region, (KEEP[::-1], KEEP, (7,) * 16, (0, 9) + (0,) * 14)),),
+                (("tone", region, (KEEP[::-1], KEEP, (7,) * 16, (0,) * 15 + (1,))),),
             ):
                 self.check(sides, deeds)
             if sides[0] == sides[1]:

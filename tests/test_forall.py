@@ -236,6 +236,13 @@ class HiddenTests(unittest.TestCase):
         ):
             self.assertEqual(hidden_points((1, 1, layers), ("a",), "a"), [])
 
+    def test_layers_of_which_one_colour_or_the_cover_alone_is_seen(self):
+        for k in range(4):
+            tables = tuple(KEEP if k == place else (9,) * 16 for place in range(4))
+            document = (1, 1, (paint("a"), tone("t", LOOK, tables)))
+            self.assertEqual(hidden_points(document, ("a",), "a"), [])
+            self.check_point(document, ("a",), "a", (0, 0), False)
+
     def test_the_list_is_new(self):
         document = (1, 1, (paint("a", OFF),))
         hidden_points(document, ("a",), "a").clear()

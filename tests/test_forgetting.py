@@ -4,9 +4,11 @@ import unittest
 
 from paintershouse.deeds import done_all
 from paintershouse.errors import Missing, NotAllowed, TooLarge
-from paintershouse.forgetting import are_twins, kept_points, twins, undoing
+from paintershouse.forgetting import are_twins, kept_points, pixels_made_same, twins, undoing
 from paintershouse.forms import form_of
 from paintershouse.pictures import blank, check_picture, points_of, size_of
+from paintershouse.pixels import check_pixel
+from paintershouse.shades import PLAIN_SHADE, shaded
 from tests.making import Maker, dot, plain_region
 from tests.test_deeds_errors import GOOD, wrong_deeds
 from tests.test_forms import plain_rows
@@ -123,6 +125,81 @@ class TwinsTests(unittest.TestCase):
             for other in (maker.picture(*sides), one, dot(*sides, (0, 0), CLEAR), maker.picture(sides[0], sides[1] + 1)):
                 wanted = size_of(other) == sides and one != other and done_all(one, deeds) == done_all(other, deeds)
                 self.assertIs(are_twins(sides, deeds, one, other), wanted)
+
+
+class SamePixelsTests(unittest.TestCase):
+    """Shades that keep colours, and others that tell covers by the level of red."""
+
+    def colours(self, at=(), levels=KEEP, clear=0):
+        """The shade that keeps colours, but for that at (k, cover), and makes all covers 15."""
+        tables = []
+        for k in range(3):
+            rows = [KEEP if clear or cover else (0,) * 16 for cover in KEEP]
+            rows[0] = (0,) * 16
+            if at and at[0] == k:
+                rows[at[1]] = levels
+            tables.append(tuple(rows))
+        return ((clear,) + (15,) * 15, tuple(tables))
+
+    def covers(self, told):
+        """The shade whose red tells for each cover a level, and makes all covers 15."""
+        reds = tuple((level,) * 16 for level in told)
+        nothing = ((0,) * 16,) * 16
+        return ((15,) * 16, (reds, nothing, nothing))
+
+    def check(self, shades, covers):
+        one, other = pixels_made_same(shades)
+        self.assertNotEqual(one, other)
+        for pixel in (one, other):
+            self.assertIsNone(check_pixel(pixel))
+        self.assertEqual({one[3], other[3]}, set(covers))
+        for shade in shades:
+            self.assertEqual(shaded(shade, one), shaded(shade, other))
+
+    def test_colours_and_covers_together_tell_the_pixel(self):
+        self.assertEqual(pixels_made_same((self.colours(), self.covers(KEEP))), ())
+        self.assertEqual(pixels_made_same((self.colours(clear=15), self.covers(KEEP))), ())
+        self.assertEqual(pixels_made_same((PLAIN_SHADE,)), ())
+
+    def test_two_covers_that_are_told_by_the_same_level(self):
+        for first in KEEP:
+            for second in KEEP[first + 1:]:
+                told = tuple(first if cover == second else cover for cover in KEEP)
+                self.check((self.colours(clear=15), self.covers(told)), (first, second))
+                if first == 0:
+                    # The clear pixel is told by its cover, too.
+                    self.assertEqual(pixels_made_same((self.colours(), self.covers(told))), ())
+
+    def test_two_levels_of_one_colour_that_become_the_same(self):
+        for k in range(3):
+            for cover in KEEP[1:]:
+                for low, high in ((0, 1), (14, 15), (3, 9)):
+                    levels = tuple(low if level == high else level for level in KEEP)
+                    shades = (self.colours((k, cover), levels), self.covers(KEEP))
+                    self.check(shades, (cover,))
+                    pixels = pixels_made_same(shades)
+                    self.assertEqual({pixel[k] for pixel in pixels}, {low, high})
+
+    def test_covers_with_no_level_in_common(self):
+        half = tuple(level // 2 for level in KEEP)
+        high = tuple(8 + level // 2 for level in KEEP)
+        odd = tuple(level % 2 for level in KEEP)
+        # With these, the covers 4 and 5 have each colour apart, but are told by the same level.
+        told = KEEP[:5] + (4,) + KEEP[6:]
+        for k in range(3):
+            shades = (self.colours((k, 4), half), self.colours((k, 4), odd), self.covers(told))
+            self.check((self.colours((k, 4), half), self.covers(told)), (4,))
+            self.check(shades, (4, 5))
+            lower, upper = self.colours((k, 4), half), self.colours((k, 5), high)
+            both = tuple(tuple(
+                upper[1][place][cover] if cover == 5 else lower[1][place][cover] for cover in KEEP
+            ) for place in range(3))
+            again = tuple(
+                tuple(odd if place == k and cover in (4, 5) else self.colours()[1][place][cover] for cover in KEEP)
+                for place in range(3)
+            )
+            apart = (((0,) + (15,) * 15, both), ((0,) + (15,) * 15, again), self.covers(told))
+            self.assertEqual(pixels_made_same(apart), ())
 
 
 class UndoingTests(unittest.TestCase):

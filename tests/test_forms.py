@@ -237,6 +237,38 @@ class LeastPictureTests(unittest.TestCase):
         self.assertEqual(least_picture((1, 1), (("tone", dot_at, reds),), ()), (((15, 0, 0, 1),),))
         self.assertEqual(least_picture((1, 1), (("tone", dot_at, reds),), (("tone", dot_at, greens),)), (((0, 9, 0, 1),),))
 
+    def test_each_level_and_cover_can_tell_apart(self):
+        only_full = (0,) * 15 + (15,)
+        for k in range(3):
+            for level in range(1, 16):
+                table = tuple(0 if old == level else old for old in KEEP)
+                for covers, cover in ((KEEP, 1), (only_full, 15)):
+                    tables = (KEEP,) * k + (table,) + (KEEP,) * (2 - k) + (covers,)
+                    wanted = [0, 0, 0, cover]
+                    wanted[k] = level
+                    first, second = (("tone", ((0, 0, 0),), tables),), (("tone", ((0, 0, 0),), (KEEP,) * 3 + (covers,)),)
+                    self.assertEqual(least_picture((1, 1), first, second), ((tuple(wanted),),))
+        for cover in range(1, 16):
+            covers = tuple(16 - old if old == cover else old for old in KEEP)
+            if covers != KEEP:
+                deeds = (("tone", ((0, 0, 0),), (KEEP,) * 3 + (covers,)),)
+                self.assertEqual(least_picture((1, 1), deeds, ()), (((0, 0, 0, cover),),))
+
+    def test_the_least_one_of_several(self):
+        copied = ("copy", ((0, 0, 0),), 1, 0)
+        red = (KEEP[:9] + (0,) * 7, KEEP, KEEP, KEEP)
+        blue = (KEEP, KEEP, KEEP[:5] + (0,) * 11, KEEP)
+        least = (((0, 0, 5, 1), CLEAR),)
+        for one, other in ((red, blue), (blue, red)):
+            deeds = (copied, ("tone", ((0, 0, 0),), one), ("tone", ((0, 1, 1),), other))
+            self.assertEqual(least_picture((2, 1), deeds, (copied,)), least)
+            self.assertEqual(least_picture((2, 1), (copied,), deeds), least)
+        # A later point comes first, even with a greater pixel.
+        for turned in ((), (("flip",),)):
+            at_last, at_first = (((0, 0, 0),), ((0, 1, 1),)) if turned else (((0, 1, 1),), ((0, 0, 0),))
+            deeds = turned + (("tone", at_last, red), ("tone", at_first, blue))
+            self.assertEqual(least_picture((2, 1), deeds, turned), ((CLEAR, (9, 0, 0, 1)),))
+
     def test_one_point(self):
         for _, sides, deeds, other in self.pairs(116, 350):
             if sides == (1, 1):

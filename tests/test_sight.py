@@ -148,6 +148,8 @@ class TouchedTests(unittest.TestCase):
             self.assertRaises(NotAllowed, touched, (1, 1, ()), (1, 1, ()), side)
         self.assertRaises(NotAllowed, touched, (1, 2, ()), (2, 1, ()), 1)
         self.assertRaises(NotAllowed, touched, (1, 2, ()), (1, 1, ()), 1)
+        self.assertRaises(NotAllowed, touched, (1, 1, ()), (1, 2, ()), 1)
+        self.assertRaises(NotAllowed, touched, (1, 1, ()), (2, 1, ()), 1)
 
 
 class SightTests(unittest.TestCase):
@@ -220,7 +222,7 @@ class SightTests(unittest.TestCase):
         sight.look((0, 0, 1, 1))
         for view in WRONG_VIEWS:
             self.assertRaises(NotAllowed, sight.look, view)
-        for other in ((3, 5, ()), (5, 2, ()), (4, 3, ())):
+        for other in ((3, 5, ()), (5, 2, ()), (4, 3, ()), (6, 4, ()), (5, 4, ())):
             self.assertRaises(NotAllowed, sight.exchange, other)
         self.assertEqual((sight.work(), sight.made()), (4, [(0, 0)]))
         self.assertEqual(sight.look((0, 0, 5, 3)), ((RED,) * 5,) * 3)
