@@ -1,7 +1,7 @@
 """What is true for all pictures of the open layers of a document."""
 
 from paintershouse.errors import Missing, NotAllowed
-from paintershouse.greys import all_codes, code_of, codes_over, grey_codes, pixels_at, seen_there
+from paintershouse.greys import Codes, all_codes, code_of, grey_codes, pixels_at, seen_there
 from paintershouse.layers import PLAIN_LOOK, layer, layers_there, level_at, over_all, pixel_told, put_in_place
 from paintershouse.opened import check_open, check_place
 from paintershouse.pictures import blank, points_of
@@ -41,7 +41,7 @@ def judge_difference(first, second, opens, paper):
 def _difference(first, second, opens):
     """Returns a paper of difference with the first point, or the empty tuple."""
     wide, high, _ = first
-    known, found = {}, {}
+    lists, found = Codes(), {}
     for point in points_of(wide, high):
         one, other = layers_there(first[2], point, opens), layers_there(second[2], point, opens)
         if one == other:
@@ -49,17 +49,17 @@ def _difference(first, second, opens):
         # Groups in groups are too deep for a key, so a text tells them.
         key = repr((one, other))
         if key not in found:
-            found[key] = _pixels_apart(known, one, other, len(opens))
+            found[key] = _pixels_apart(lists, one, other, len(opens))
         if found[key]:
             return (point, found[key])
     return ()
 
 
-def _pixels_apart(known, one, other, many):
+def _pixels_apart(lists, one, other, many):
     """Returns grey pixels with which something else is seen, or the empty tuple."""
     for k in range(3):
-        codes = all_codes(seen_there(known, k, one), many)
-        others = all_codes(seen_there(known, k, other), many)
+        codes = all_codes(seen_there(lists, k, one), many)
+        others = all_codes(seen_there(lists, k, other), many)
         if codes != others:
             for at, code in enumerate(codes):
                 if code != others[at]:
@@ -67,11 +67,11 @@ def _pixels_apart(known, one, other, many):
     return ()
 
 
-def _seen_change(known, there, which, many):
+def _seen_change(lists, there, which, many):
     """Returns pixels of the open layers, and another one of one of them that is seen, or the empty tuple."""
     greys = len(grey_codes())
     for k in range(3):
-        codes = all_codes(seen_there(known, k, there), many)
+        codes = all_codes(seen_there(lists, k, there), many)
         for at, code in enumerate(codes):
             # That of the same pixels, but for the clear one of this layer.
             clear = at % greys if which < many - 1 else at - at % greys
@@ -90,12 +90,12 @@ def hidden_points(document, opens, name):
     check_open(document, opens)
     _check_name(opens, name)
     wide, high, layers = document
-    known, found, points = {}, {}, []
+    lists, found, points = Codes(), {}, []
     for point in points_of(wide, high):
         there = layers_there(layers, point, opens)
         key = repr(there)
         if key not in found:
-            found[key] = _seen_change(known, there, opens.index(name), len(opens))
+            found[key] = _seen_change(lists, there, opens.index(name), len(opens))
         if not found[key]:
             points.append(point)
     return points
@@ -106,7 +106,7 @@ def sight_paper(document, opens, name, point):
     check_open(document, opens)
     _check_name(opens, name)
     check_place(document, point)
-    change = _seen_change({}, layers_there(document[2], point, opens), opens.index(name), len(opens))
+    change = _seen_change(Codes(), layers_there(document[2], point, opens), opens.index(name), len(opens))
     if not change:
         raise Missing("a layer that is never seen there")
     return change + (point,)
@@ -174,22 +174,22 @@ def joined_above(document, name):
             raise NotAllowed("only paint layers that are shown can be joined")
     wide, high, _ = document
     picture = over_all(blank(wide, high), (lower, upper))
-    known = {}
+    lists = Codes()
     for point in points_of(wide, high):
-        if not _may_join(known, lower, upper, picture, point):
+        if not _may_join(lists, lower, upper, picture, point):
             raise Missing("layers that may not be joined")
     return _with_pair(document, lower, upper, (("paint", name, PLAIN_LOOK, picture),))
 
 
-def _may_join(known, lower, upper, picture, point):
+def _may_join(lists, lower, upper, picture, point):
     """Tells whether two paint layers are seen as one picture at a point, whatever is below them."""
     x, y = point
     for k in range(3):
         rows = []
         for _, _, look, painted in (lower, upper):
-            rows.append(codes_over(known, look[1], level_at(look, point), code_of(painted[y][x], k)))
+            rows.append(lists.over(look[1], level_at(look, point), code_of(painted[y][x], k)))
         low, high = rows
-        joined = codes_over(known, "plain", 15, code_of(picture[y][x], k))
+        joined = lists.over("plain", 15, code_of(picture[y][x], k))
         if not all([high[low[code]] == joined[code] for code in grey_codes()]):
             return False
     return True

@@ -53,57 +53,62 @@ def toned_code(code, table, covers, level):
     return 16 * made + mixed(code & 15, colour, level)
 
 
-def codes_over(known, mode, level, above):
-    """Returns the list of what is seen of a code above each code; known is a dict of those that are made."""
-    key = (mode, level, above)
-    if key not in known:
-        known[key] = [blended_code(mode, below, above, level) for below in range(MANY_CODES)]
-    return known[key]
+class Codes:
+    """Lists of what becomes of each code, each of which is made once."""
+
+    def __init__(self):
+        self.lists = {}
+
+    def over(self, mode, level, above):
+        """Returns the list of what is seen of a code above each code."""
+        key = (mode, level, above)
+        if key not in self.lists:
+            self.lists[key] = [blended_code(mode, below, above, level) for below in range(MANY_CODES)]
+        return list(self.lists[key])
+
+    def toned(self, table, covers, level):
+        """Returns the list of what a tone makes of each code."""
+        key = (table, covers, level)
+        if key not in self.lists:
+            self.lists[key] = [toned_code(code, table, covers, level) for code in range(MANY_CODES)]
+        return list(self.lists[key])
 
 
-def codes_toned(known, table, covers, level):
-    """Returns the list of what a tone makes of each code; known is a dict of those that are made."""
-    key = (table, covers, level)
-    if key not in known:
-        known[key] = [toned_code(code, table, covers, level) for code in range(MANY_CODES)]
-    return known[key]
-
-
-def seen_there(known, k, there):
+def seen_there(codes, k, there):
     """Returns what is seen of the colour k, by what layers have at a point."""
     seen = ((), [0], [0])
     for kind, mode, level, inner in there:
         if kind == "tone":
-            seen = _toned(known, seen, inner[k], inner[3], level)
+            seen = _toned(codes, seen, inner[k], inner[3], level)
         elif kind == "unknown":
-            seen = _laid(known, mode, level, seen, ((inner,), list(range(MANY_CODES - 15)), grey_codes()))
+            seen = _laid(codes, mode, level, seen, ((inner,), list(range(MANY_CODES - 15)), grey_codes()))
         elif kind == "paint":
-            seen = _laid(known, mode, level, seen, ((), [0], [code_of(inner, k)]))
+            seen = _laid(codes, mode, level, seen, ((), [0], [code_of(inner, k)]))
         else:
-            seen = _laid(known, mode, level, seen, seen_there(known, k, inner))
+            seen = _laid(codes, mode, level, seen, seen_there(codes, k, inner))
     return seen
 
 
-def _toned(known, seen, table, covers, level):
+def _toned(codes, seen, table, covers, level):
     """Returns what is seen of a tone above what is seen."""
-    opens, places, codes = seen
+    opens, places, told = seen
     if not opens:
-        return (opens, places, [toned_code(codes[0], table, covers, level)])
-    made = codes_toned(known, table, covers, level)
-    return (opens, places, [made[code] for code in codes])
+        return (opens, places, [toned_code(told[0], table, covers, level)])
+    made = codes.toned(table, covers, level)
+    return (opens, places, [made[code] for code in told])
 
 
-def _laid(known, mode, level, below, above):
+def _laid(codes, mode, level, below, above):
     """Returns what is seen of one above another one, which depend on different open layers."""
-    opens, places, codes = below
-    over_opens, over_places, over_codes = above
+    opens, places, told = below
+    over_opens, over_places, over_told = above
     if not opens:
-        return (over_opens, over_places, [blended_code(mode, codes[0], code, level) for code in over_codes])
+        return (over_opens, over_places, [blended_code(mode, told[0], code, level) for code in over_told])
     if not over_opens:
-        made = codes_over(known, mode, level, over_codes[0])
-        return (opens, places, [made[code] for code in codes])
-    low = [codes[place] for place in places]
-    rows = [codes_over(known, mode, level, over_codes[place]) for place in over_places]
+        made = codes.over(mode, level, over_told[0])
+        return (opens, places, [made[code] for code in told])
+    low = [told[place] for place in places]
+    rows = [codes.over(mode, level, over_told[place]) for place in over_places]
     if opens < over_opens:
         pairs = [row[code] for code in low for row in rows]
     else:

@@ -180,6 +180,14 @@ class SamePixelsTests(unittest.TestCase):
                     pixels = pixels_made_same(shades)
                     self.assertEqual({pixel[k] for pixel in pixels}, {low, high})
 
+    def test_other_levels_of_other_covers(self):
+        told = KEEP[:5] + (4,) + KEEP[6:]
+        for k in range(3):
+            shades = (self.colours((k, 5), KEEP[1:] + KEEP[:1]), self.covers(told))
+            self.check(shades, (4, 5))
+            one, other = pixels_made_same(shades)
+            self.assertNotEqual(one[k], other[k])
+
     def test_covers_with_no_level_in_common(self):
         half = tuple(level // 2 for level in KEEP)
         high = tuple(8 + level // 2 for level in KEEP)

@@ -3,7 +3,7 @@
 import unittest
 
 from paintershouse.greys import (
-    all_codes, blended_code, code_of, codes_over, codes_toned, grey_codes, grey_pixel, pixels_at, seen_there, toned_code,
+    Codes, all_codes, blended_code, code_of, grey_codes, grey_pixel, pixels_at, seen_there, toned_code,
 )
 from paintershouse.layers import layers_there, names_of, pixel_told, toned_at
 from paintershouse.pixels import MODES, blended
@@ -44,15 +44,15 @@ class CodesTests(unittest.TestCase):
                         self.assertEqual(told, code_of(toned_at(pixel, tables, level), k))
 
     def test_lists_of_codes(self):
-        known = {}
+        lists = Codes()
         for _ in range(2):
             self.assertEqual(
-                [codes_over(known, "times", 9, 77)[code] for code in CODES],
+                [lists.over("times", 9, 77)[code] for code in CODES],
                 [blended_code("times", code, 77, 9) for code in CODES],
             )
             table, covers = tuple(range(15, -1, -1)), (0,) * 8 + (9,) * 8
             self.assertEqual(
-                [codes_toned(known, table, covers, 9)[code] for code in CODES],
+                [lists.toned(table, covers, 9)[code] for code in CODES],
                 [toned_code(code, table, covers, 9) for code in CODES],
             )
 
@@ -62,7 +62,7 @@ class SeenTests(unittest.TestCase):
         there = layers_there(document[2], (0, 0), opens)
         many = len(opens)
         for k in range(3):
-            codes = all_codes(seen_there({}, k, there), many)
+            codes = all_codes(seen_there(Codes(), k, there), many)
             self.assertEqual(len(codes), 241 ** many)
             for at in range(k, len(codes), 1 if many == 1 else 61):
                 self.assertEqual(codes[at], code_of(pixel_told(there, pixels_at(at, many)), k))
@@ -76,10 +76,11 @@ class SeenTests(unittest.TestCase):
         low = tone("low", LOOK, ((3,) * 16, (9,) * 16, (4,) * 16, (5,) * 16))
         hidden = ("paint", "b", (0, "plain", 15, ()), a[3])
         off = ("paint", "a", (1, "plain", 0, ()), a[3])
+        none = ("group", "g", (0, "plain", 15, ()), (a, b))
         for layers in (
             (low, a, b, over), (low, over, ("group", "g", LOOK, (b, over, a))), (a, over, hidden), (low, off, b, over),
             (over, off, hidden), (a, b, low), (group("g", a, over), group("h", b, over), low[:1] + ("top",) + low[2:]),
-            (group("h", b), over, group("g", a)), (b, over, a), (a, b),
+            (group("h", b), over, group("g", a)), (b, over, a), (a, b), (low, none), (none,), (over, hidden),
         ):
             document = (1, 1, layers)
             self.check(document, tuple(name for name in names_of(document) if name in ("a", "b")))
