@@ -31,11 +31,16 @@ def tiles_of(wide, high, side):
 
 def tile_points(wide, high, side, tile):
     """Returns the list of the points of a tile, in order."""
-    if tile not in tiles_of(wide, high, side):
+    check_size(wide, high)
+    check_side(side)
+    if not 0 <= tile[0] < _many_across(wide, side) or not 0 <= tile[1] < _many_across(high, side):
         raise NotAllowed("not a tile")
-    left, top = tile[0] * side, tile[1] * side
-    right, bottom = min(wide, left + side), min(high, top + side)
-    return [(x, y) for y in range(top, bottom) for x in range(left, right)]
+    return [(x, y) for y in _span(tile[1], side, high) for x in _span(tile[0], side, wide)]
+
+
+def _span(place, side, long):
+    """Returns the list of the columns, or of the rows, of a tile at a place among so many of them."""
+    return list(range(place * side, min(long, (place + 1) * side)))
 
 
 def tiles_in(wide, high, side, view):
