@@ -127,6 +127,14 @@ class ReaderTests(unittest.TestCase):
                 self.assertEqual(getattr(reader, word)(*arguments), value)
             self.assertEqual(reader.left(), len(rest))
 
+    def test_heads(self):
+        for wide in range(1, 25):
+            high = 25 - wide
+            head = number_bits(wide - 1, 5) + number_bits(high - 1, 5)
+            self.assertEqual(head, f"{wide - 1:05b}{high - 1:05b}")
+            reader = BitReader(head)
+            self.assertEqual((reader.number(5) + 1, reader.number(5) + 1, reader.left()), (wide, high, 0))
+
     def test_no_bits(self):
         reader = BitReader("")
         self.assertEqual((reader.left(), reader.number(0)), (0, 0))

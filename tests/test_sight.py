@@ -214,6 +214,19 @@ class SightTests(unittest.TestCase):
         self.assertEqual(sight.look((0, 0, 3, 1)), ((RED, RED, RED),))
         self.assertEqual(sight.work(), 4)
 
+    def test_an_exchange_of_masks_names_and_layers_that_are_not_shown(self):
+        def masked(*levels):
+            return paint("a", (1, "plain", 15, (levels,)), (RED, RED, RED))
+        sight = Sight((3, 1, (masked(15, 15, 15),)), 2)
+        sight.look((0, 0, 3, 1))
+        sight.exchange((3, 1, (masked(15, 15, 0),)))
+        self.assertEqual(sight.made(), [(0, 0)])
+        sight.exchange((3, 1, (("paint", "b") + masked(15, 15, 0)[2:],)))
+        sight.exchange((3, 1, (masked(15, 15, 0), paint("off", (0, "plain", 15, ()), (BLUE, BLUE, BLUE)))))
+        self.assertEqual(sight.made(), [(0, 0)])
+        self.assertEqual(sight.look((0, 0, 3, 1)), ((RED, RED, CLEAR),))
+        self.assertEqual(sight.work(), 4)
+
     def test_wrong_values_change_nothing(self):
         for side in WRONG_TILE_SIDES:
             self.assertRaises(NotAllowed, Sight, (1, 1, ()), side)
