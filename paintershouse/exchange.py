@@ -1,7 +1,7 @@
 """Plain rows that may be exchanged, that are one deed, or have deeds that are needless."""
 
 from paintershouse.errors import Missing, TooLarge
-from paintershouse.forms import check_plain, deed_form, form_behind, form_of, plain_form, told_entries
+from paintershouse.forms import FormBook, check_plain, deed_form, form_behind, form_of, told_entries
 from paintershouse.pixels import CLEAR
 from paintershouse.regions import region_of
 from paintershouse.shades import PLAIN_SHADE
@@ -77,38 +77,41 @@ def _tables_of(shade):
 def needless(sides, deeds):
     """Returns the ascending list of the indexes of the needless deeds of a plain row."""
     check_plain(sides, deeds)
-    forms = [deed_form(sides, deed) for deed in deeds]
-    ahead = [plain_form(sides)]
+    book = FormBook(sides)
+    forms = [book.taken(deed_form(sides, deed)) for deed in deeds]
+    ahead = [book.plain()]
     for form in forms:
-        ahead.append(form_behind(ahead[-1], form))
+        ahead.append(book.put_behind(ahead[-1], form))
     found = []
-    rest = plain_form(sides)
+    rest = book.plain()
     for k in reversed(range(len(deeds))):
-        if form_behind(ahead[k], rest) == ahead[-1]:
+        if book.put_behind(ahead[k], rest) == ahead[-1]:
             found.append(k)
-        rest = form_behind(forms[k], rest)
+        rest = book.put_behind(forms[k], rest)
     return sorted(found)
 
 
 def least_part(sides, deeds):
     """Returns the least part of a plain row, by its indexes."""
-    form = form_of(sides, deeds)
+    check_plain(sides, deeds)
     if len(deeds) > MAX_PARTS:
         raise TooLarge("too many deeds")
-    forms = [deed_form(sides, deed) for deed in deeds]
-    parts = [((), plain_form(sides))]
+    book = FormBook(sides)
+    forms = [book.taken(deed_form(sides, deed)) for deed in deeds]
+    form = book.all_behind(forms)
+    parts = [((), book.plain())]
     while True:
         for part, made in parts:
             if made == form:
                 return part
         # The whole row has its own form, so this comes to an end.
-        parts = _longer(parts, forms)
+        parts = _longer(book, parts, forms)
 
 
-def _longer(parts, forms):
+def _longer(book, parts, forms):
     """Returns the list of the parts with one index more, in order, each with its form."""
     made = []
     for part, form in parts:
         for k in range(part[-1] + 1 if part else 0, len(forms)):
-            made.append((part + (k,), form_behind(form, forms[k])))
+            made.append((part + (k,), book.put_behind(form, forms[k])))
     return made

@@ -87,13 +87,111 @@ def _in_rows(sides, entries):
     return [[entries.get((x, y), CLEAR) for x in range(wide)] for y in range(high)]
 
 
+class FormBook:
+    """Forms for some sides, each told as a tuple of entries, one for each point, in order.
+
+    An entry is a pixel, or a pair of the place of a point among all and the
+    number of a shade. Each two shades are put together once only, and two forms
+    of one book are the same just if their entries are.
+    """
+
+    def __init__(self, sides):
+        self.sides = sides
+        self.shades = [PLAIN_SHADE]
+        self.numbers = {PLAIN_SHADE: 0}
+        self.pairs = {}
+
+    def plain(self):
+        """Returns the entries of the form of the row without deeds."""
+        return tuple([(at, 0) for at in range(self.sides[0] * self.sides[1])])
+
+    def taken(self, form):
+        """Returns the entries of a form."""
+        shades, rows = form
+        numbers = [self._number(shade) for shade in shades]
+        entries = []
+        for row in rows:
+            for entry in row:
+                if len(entry) == 3:
+                    entry = (entry[1] * self.sides[0] + entry[0], numbers[entry[2]])
+                entries.append(entry)
+        return tuple(entries)
+
+    def row(self, deeds):
+        """Returns the entries of the form of a plain row."""
+        return self.all_behind([self.taken(deed_form(self.sides, deed)) for deed in deeds])
+
+    def all_behind(self, forms):
+        """Returns the entries of some forms, one behind another."""
+        entries = self.plain()
+        for form in forms:
+            entries = self.put_behind(entries, form)
+        return entries
+
+    def put_behind(self, first, later):
+        """Returns the entries of a form and then another one."""
+        made = []
+        for entry in later:
+            if len(entry) == 2:
+                entry = self._shaded_entry(first[entry[0]], entry[1])
+            made.append(entry)
+        return tuple(made)
+
+    def entry_at(self, forms, at):
+        """Returns the entry at a place of some forms, one behind another."""
+        entry = (at, 0)
+        for form in reversed(forms):
+            if len(entry) == 2:
+                entry = self._shaded_entry(form[entry[0]], entry[1])
+        return entry
+
+    def told(self, entry):
+        """Returns what an entry tells: a pixel, or a pair of a point and a shade."""
+        if len(entry) == 4:
+            return entry
+        place, number = entry
+        return (self.point(place), self.shades[number])
+
+    def point(self, place):
+        """Returns the point at a place among all."""
+        return (place % self.sides[0], place // self.sides[0])
+
+    def form(self, entries):
+        """Returns the form with some entries."""
+        wide, high = self.sides
+        made = []
+        for entry in entries:
+            if len(entry) == 2:
+                entry = self.point(entry[0]) + (entry[1],)
+            made.append(entry)
+        return _in_order(self.shades, [made[y * wide:(y + 1) * wide] for y in range(high)])
+
+    def _number(self, shade):
+        """Returns the number of a shade."""
+        if shade not in self.numbers:
+            self.numbers[shade] = len(self.shades)
+            self.shades.append(shade)
+        return self.numbers[shade]
+
+    def _shaded_entry(self, entry, number):
+        """Returns what the shade with a number makes of an entry."""
+        if number == 0:
+            return entry
+        if len(entry) == 4:
+            return shaded(self.shades[number], entry)
+        pair = (entry[1], number)
+        if pair not in self.pairs:
+            shade = behind(self.shades[entry[1]], self.shades[number])
+            self.pairs[pair] = (self._number(shade), fixed_pixel(shade))
+        made, pixel = self.pairs[pair]
+        return (entry[0], made) if pixel is None else pixel
+
+
 def form_of(sides, deeds):
     """Returns the form of a plain row."""
     check_plain(sides, deeds)
-    form = plain_form(sides)
-    for deed in deeds:
-        form = form_behind(form, deed_form(sides, deed))
-    return form
+    book = FormBook(sides)
+    return book.form(book.row(deeds))
 
 
 def drawn_by(form, picture):
@@ -114,30 +212,9 @@ def drawn_by(form, picture):
 
 def form_behind(first, second):
     """Returns the form of a row with the first form and then one with the second form."""
-    shades, rows = first
-    later_shades, later_rows = second
-    # What comes of each pair of shades is found once; a pixel stands for a fixed shade.
-    both, made, found = {}, [], []
-    for later_row in later_rows:
-        entries = []
-        for entry in later_row:
-            if len(entry) == 4:
-                entries.append(entry)
-                continue
-            x, y, k = entry
-            source = rows[y][x]
-            if len(source) == 4:
-                entries.append(shaded(later_shades[k], source))
-                continue
-            pair = (source[2], k)
-            if pair not in both:
-                shade = behind(shades[source[2]], later_shades[k])
-                both[pair] = (len(made), fixed_pixel(shade))
-                made.append(shade)
-            number, pixel = both[pair]
-            entries.append((source[0], source[1], number) if pixel is None else pixel)
-        found.append(entries)
-    return _in_order(made, found)
+    _, rows = first
+    book = FormBook((len(rows[0]), len(rows)))
+    return book.form(book.put_behind(book.taken(first), book.taken(second)))
 
 
 def told_entries(form):
@@ -173,6 +250,16 @@ def least_picture(sides, first, second):
             if place > last or pixel < least:
                 last, least = place, pixel
     return tuple([tuple([least if (y, x) == last else CLEAR for x in range(wide)]) for y in range(high)])
+
+
+def picture_apart(sides, one, other):
+    """Returns a picture of which two rows make different pixels at a point, by the entries that are told of it."""
+    wide, high = sides
+    if _behind_clear(one) != _behind_clear(other):
+        return ((CLEAR,) * wide,) * high
+    source, shade, rest = _choices(one, other)[0]
+    pixel = _least_pixel(shade, rest)
+    return tuple([tuple([pixel if (x, y) == source else CLEAR for x in range(wide)]) for y in range(high)])
 
 
 def _behind_clear(entry):
