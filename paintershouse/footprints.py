@@ -7,7 +7,7 @@ from paintershouse.pictures import points_of
 from paintershouse.regions import is_within, points_in, region_of
 
 
-def _touched_by(sides, deed):
+def touched_by(sides, deed):
     """Returns the list of the points that a deed touches."""
     wide, high = sides
     word = deed[0]
@@ -29,7 +29,7 @@ def _steps_back(sides, deed):
         return {point: [sources[point]] if point in sources else [] for point in points}
     steps = {point: [point] for point in points}
     if deed[0] in NEIGHBOURS:
-        for point in _touched_by(sides, deed):
+        for point in touched_by(sides, deed):
             steps[point] = _box(sides, point, deed[2])
     return steps
 
@@ -42,7 +42,7 @@ def _box(sides, point, reach):
     return [(i, j) for j in rows for i in columns]
 
 
-def _back(sides, deeds, points):
+def back_from(sides, deeds, points):
     """Returns a dict of all points to which one comes from some points, from the last deed back."""
     there = {point: True for point in points}
     for deed in reversed(deeds):
@@ -63,13 +63,13 @@ def footprint(sides, deeds, point):
     check_doable(sides, deeds)
     if not is_within(sides, point):
         raise NotAllowed("not a point within the sides")
-    return region_of(list(_back(sides, deeds, [point])))
+    return region_of(list(back_from(sides, deeds, [point])))
 
 
 def touched(sides, deeds):
     """Returns the region of the points that a row touches."""
     check_doable(sides, deeds)
-    return region_of([point for deed in deeds for point in _touched_by(sides, deed)])
+    return region_of([point for deed in deeds for point in touched_by(sides, deed)])
 
 
 def are_apart(sides, first, second):
@@ -80,6 +80,6 @@ def are_apart(sides, first, second):
 
 def _meet(sides, deeds, points, others):
     """Tells whether a row that touches some points touches others, or takes something from them."""
-    taken = _back(sides, deeds, points)
+    taken = back_from(sides, deeds, points)
     also = set(points)
     return any([point in also or point in taken for point in others])

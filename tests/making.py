@@ -29,6 +29,33 @@ class Maker:
         """Returns a picture with these sides."""
         return tuple(tuple(self.pixel() for _ in range(wide)) for _ in range(high))
 
+    def few_pixels(self, many):
+        """Returns an ascending tuple of so many different pixels."""
+        pixels = set()
+        while len(pixels) < many:
+            pixels.add(self.pixel())
+        return tuple(sorted(pixels))
+
+    def picture_of(self, wide, high, pixels):
+        """Returns a picture of some pixels, which often stand side by side."""
+        rows, pixel = [], pixels[0]
+        for _ in range(high):
+            row = []
+            for _ in range(wide):
+                if self.number(0, 1):
+                    pixel = self.one_of(pixels)
+                row.append(pixel)
+            rows.append(tuple(row))
+        return tuple(rows)
+
+    def film(self, wide, high, many, most):
+        """Returns a film of so many frames, of few pictures that often stand side by side, with times up to a greatest one."""
+        pictures = [self.picture_of(wide, high, self.few_pixels(2)) for _ in range(3)]
+        frames = []
+        for _ in range(many):
+            frames.append((self.one_of(pictures), self.number(1, most)))
+        return tuple(frames)
+
     def points(self, wide, high, percent):
         """Returns the set of about so many percent of the points within sides."""
         return {
@@ -100,6 +127,24 @@ class Maker:
             words.append("turn")
         deeds = [self.deed(self.one_of(words), wide, high) for _ in range(many)]
         return tuple(self.softer(deed, wide, high) for deed in deeds)
+
+    def busy_row(self, wide, high, many):
+        """Returns a plain row of so many deeds that mostly do something, and hide little of what was there."""
+        deeds = []
+        for _ in range(many):
+            region = plain_region(self.points(wide, high, 60))
+            word = self.one_of(("fill", "fill", "erase", "tone", "copy", "flip", "fall"))
+            if word == "fill":
+                deeds.append((word, region, self.pixel(), self.one_of(MODES), self.one_of((15, 9, 5))))
+            elif word == "erase":
+                deeds.append((word, region, self.number(1, 15)))
+            elif word == "tone":
+                deeds.append((word, region, self.shuffled_tables()))
+            elif word == "copy":
+                deeds.append((word, region, self.number(-1, 1), self.number(-1, 1)))
+            else:
+                deeds.append((word,))
+        return tuple(deeds)
 
     def softer(self, deed, wide, high):
         """Returns a deed; most moves go nowhere, most tables have each level once, most fills are half seen."""
