@@ -6,6 +6,7 @@ from paintershouse.pictures import MAX_SIDE, cut_out, flipped, size_of, turned
 from paintershouse.pixels import CLEAR, MODES, blended, faded, is_level, is_pixel
 from paintershouse.regions import is_region, is_within, points_in
 from paintershouse.strokes import is_brush, is_path, stroke_region
+from paintershouse.values import is_nested
 
 MAX_DEEDS = 40
 MAX_NEAR = 3
@@ -67,6 +68,37 @@ def _is_part(name, part):
         return len(part) == 2 and is_within((MAX_SIDE, MAX_SIDE), part)
     # By which integers pixels are copied has no limits.
     return True
+
+
+def is_built_row(value):
+    """Tells whether a value is a tuple of tuples that are built like deeds, whatever their parts tell."""
+    return isinstance(value, tuple) and all([_is_built_deed(part) for part in value])
+
+
+def _is_built_deed(value):
+    if not isinstance(value, tuple) or not value or not isinstance(value[0], str) or value[0] not in PARTS:
+        return False
+    wanted = PARTS[value[0]]
+    if len(value) != len(wanted) + 1:
+        return False
+    return all([_is_built_part(name, value[k + 1]) for k, name in enumerate(wanted)])
+
+
+def _is_built_part(name, part):
+    """Tells whether a value has the kind of such a part of a deed."""
+    if name == "mode":
+        return isinstance(part, str)
+    if name == "brush":
+        return isinstance(part, tuple) and len(part) == 2 and isinstance(part[0], str) and isinstance(part[1], int)
+    if name == "region":
+        return is_nested(part, 2) and all([len(run) == 3 for run in part])
+    if name == "path":
+        return is_nested(part, 2) and all([len(point) == 2 for point in part])
+    if name == "start":
+        return is_nested(part, 1) and len(part) == 2
+    if name == "tables":
+        return is_nested(part, 2)
+    return is_nested(part, 1 if name == "pixel" else 0)
 
 
 def are_tables(tables):

@@ -4,6 +4,7 @@ from paintershouse.deeds import are_tables, toned
 from paintershouse.errors import Missing, NotAllowed, TooLarge
 from paintershouse.pictures import blank, check_picture, check_size, points_of, size_of
 from paintershouse.pixels import CLEAR, blended, check_level, check_mode, mixed, scaled
+from paintershouse.values import is_nested, is_word
 
 MAX_ITEMS = 24
 MAX_NESTED = 4
@@ -29,7 +30,8 @@ def _check_layers(sides, layers, around):
     for kind, name, look, content in layers:
         if kind not in KINDS:
             raise NotAllowed("not the kind of a layer")
-        _check_name(name)
+        if not is_name(name):
+            raise NotAllowed("not the name of a layer")
         _check_look(sides, look)
         if kind == "paint":
             _check_painted(sides, content)
@@ -41,12 +43,9 @@ def _check_layers(sides, layers, around):
             _check_layers(sides, content, around + 1)
 
 
-def _check_name(name):
-    if not 1 <= len(name) <= MAX_WORD:
-        raise NotAllowed("not the name of a layer")
-    for sign in name:
-        if not "a" <= sign <= "z":
-            raise NotAllowed("a name of other signs than small letters")
+def is_name(text):
+    """Tells whether a text is a name."""
+    return len(text) <= MAX_WORD and is_word(text)
 
 
 def _check_look(sides, look):
@@ -75,6 +74,29 @@ def _check_painted(sides, picture):
 def _check_tables(tables):
     if not are_tables(tables):
         raise NotAllowed("not four tables")
+
+
+def is_built_look(value):
+    """Tells whether a value is built like a look, whatever its parts tell."""
+    if not isinstance(value, tuple) or len(value) != 4:
+        return False
+    shown, mode, level, mask = value
+    return isinstance(shown, int) and isinstance(mode, str) and isinstance(level, int) and is_nested(mask, 2)
+
+
+def is_built_layer(value):
+    """Tells whether a value is built like a layer, whatever its parts tell."""
+    if not isinstance(value, tuple) or len(value) != 4:
+        return False
+    kind, name, look, content = value
+    if not isinstance(kind, str) or not isinstance(name, str) or not is_built_look(look):
+        return False
+    if kind == "paint":
+        return is_nested(content, 3)
+    if kind == "tone":
+        return is_nested(content, 2)
+    # What a layer of another kind has is any tuple.
+    return isinstance(content, tuple) and (kind != "group" or all([is_built_layer(item) for item in content]))
 
 
 def level_at(look, point):

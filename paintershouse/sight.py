@@ -37,7 +37,7 @@ class Sight:
 
     def __init__(self, document, side):
         check_side(side)
-        self.document = document
+        self.held = document
         self.side = side
         # For each tile that is kept, a dict of its points and pixels.
         self.kept = {}
@@ -45,7 +45,7 @@ class Sight:
 
     def look(self, view):
         """Returns what is seen in a view."""
-        wide, high, _ = self.document
+        wide, high, _ = self.held
         for tile in tiles_in(wide, high, self.side, view):
             if tile not in self.kept:
                 self._make(tile)
@@ -57,23 +57,23 @@ class Sight:
 
     def _make(self, tile):
         """Makes a tile, and counts its points."""
-        wide, high, layers = self.document
+        wide, high, layers = self.held
         points = tile_points(wide, high, self.side, tile)
         self.kept[tile] = {point: pixel_over(CLEAR, layers, point) for point in points}
         self.points_made += len(points)
 
     def _pixel(self, x, y):
         """Returns the pixel at a point, which is outside or in a tile that is kept."""
-        if not is_within(self.document[:2], (x, y)):
+        if not is_within(self.held[:2], (x, y)):
             return CLEAR
         return self.kept[(x // self.side, y // self.side)][(x, y)]
 
     def exchange(self, document):
         """Exchanges the document; tiles that are touched are kept no longer."""
-        for tile in touched(self.document, document, self.side):
+        for tile in touched(self.held, document, self.side):
             if tile in self.kept:
                 del self.kept[tile]
-        self.document = document
+        self.held = document
 
     def work(self):
         """Returns the number of the points of all tiles that have been made."""
@@ -81,12 +81,12 @@ class Sight:
 
     def made(self):
         """Returns the list of the tiles that are kept and not touched, in order."""
-        wide, high, _ = self.document
+        wide, high, _ = self.held
         return [tile for tile in tiles_of(wide, high, self.side) if tile in self.kept]
 
     def copy(self):
         """Returns an independent sight with the same tiles."""
-        other = Sight(self.document, self.side)
+        other = Sight(self.held, self.side)
         other.kept = {tile: {point: self.kept[tile][point] for point in self.kept[tile]} for tile in self.kept}
         other.points_made = self.points_made
         return other

@@ -15,10 +15,11 @@ def pixel_text(pixel):
 
 def picture_text(picture):
     """Returns the text of a picture."""
-    return "".join([_row_text(row) + "\n" for row in picture])
+    return "".join([row_text(row) + "\n" for row in picture])
 
 
-def _row_text(row):
+def row_text(row):
+    """Returns the texts of the pixels of a row, with single spaces between."""
     return " ".join([pixel_text(pixel) for pixel in row])
 
 

@@ -50,11 +50,33 @@ INTERFACE = {
     "bits": ["number_bits", "gamma", "pixel_bits", "check_bits", "BitReader"],
     "leastcodes": ["least_lengths", "total_of", "tree_paper", "judge_tree", "codes_of"],
     "guesses": ["folded", "unfolded", "guessed", "best_guesses", "pass_points"],
+    "formats": ["code_of", "sizes_of", "least_code", "read_code", "seen_of"],
+    "hands": ["dispute", "do_agree", "dispute_paper", "judge_dispute"],
+    "merging": ["merges", "are_settled", "parting_paper", "judge_parting", "clash", "merged"],
+    "makers": ["makers", "made_by_deed", "origin"],
+    "rebasing": ["carried_over", "rebased"],
+    "grounds": ["keeps_to", "ground"],
+    "values": ["value_text", "read_value"],
+    "house": ["House", "load_house"],
+    "desk": ["run_script"],
+    "palettes": ["check_palette", "distance_of", "nearest", "reduced", "loss_of", "best_palette"],
+    "scales": [
+        "check_grey", "check_scale", "check_counts", "counts_of_levels", "loss_by", "best_scale", "true_greys", "judge_greys",
+    ],
+    "dithers": ["thresholds", "ordered", "carried"],
+    "films": [
+        "check_film", "length_of", "seen_at", "looped_at", "joined", "look_alike", "cut_film", "strung", "root_of", "shift_of",
+    ],
+    "changes": ["change_cost", "works_of", "keys_cost", "best_keys", "best_prices", "are_prices"],
+    "threeways": ["film_clash", "merged_film"],
 }
 
 METHODS = {
     ("sight", "Sight"): ["look", "exchange", "work", "made", "copy"],
     ("bits", "BitReader"): ["number", "gamma", "pixel", "left"],
+    ("house", "House"): [
+        "change", "undo", "redo", "go", "now", "many", "document", "change_of", "seen", "mark", "unmark", "marked", "copy", "image",
+    ],
 }
 
 CONSTANTS = {
@@ -84,6 +106,16 @@ CONSTANTS = {
     "smaller": {"MAX_SMALLER": 8},
     "shelf": {"MAX_ASKS": 60, "MAX_PIECE": 99, "MAX_PLACES": 8},
     "leastcodes": {"MAX_SIGNS": 600},
+    "formats": {"MAX_BITS": 24000, "KINDS": ("plain", "runs", "table", "coded", "rows", "passes")},
+    "hands": {"MAX_HANDS": 4},
+    "merging": {"MAX_MERGES": 40},
+    "rebasing": {"MOVERS": ("flip", "fall", "turn", "move")},
+    "values": {"MAX_VALUE": 60000, "MAX_NESTED": 12},
+    "house": {"MAX_NODES": 60, "MAX_IMAGE": 200000},
+    "desk": {"MAX_SCRIPT": 20000, "MAX_LINES": 100},
+    "palettes": {"MAX_PALETTE": 8, "MAX_CANDIDATES": 14},
+    "dithers": {"MAX_ORDER": 3},
+    "films": {"MAX_FRAMES": 40, "MAX_TIME": 9999},
 }
 
 

@@ -226,6 +226,114 @@ raises NotAllowed
 >>> pass_points(9, 3, 0), pass_points(9, 3, 1), best_guesses((((1, 1, 1, 1), (1, 1, 1, 1)), ((1, 1, 1, 1), (1, 1, 1, 1))))
 ([(0, 0), (8, 0)], [(4, 0)], [1, 2])
 """),
+    ("formats", """
+>>> from paintershouse.formats import KINDS, code_of, least_code, read_code, seen_of, sizes_of
+>>> dot = (((1, 2, 3, 4), (0, 0, 0, 0)),)
+>>> code_of(dot, 0), read_code(code_of(dot, 0)), sizes_of(dot)
+('00000001000000100000100100011000001101010', (0, (((1, 2, 3, 4), (0, 0, 0, 0)),)), [41, 43, 46, 54, 48, 61])
+>>> seen_of(code_of(dot, 5)[:33]), read_code(least_code(dot))[0]
+(((((1, 2, 3, 4), (1, 2, 3, 4)),), 1), 0)
+"""),
+    ("hands", """
+>>> from paintershouse.hands import dispute, dispute_paper, do_agree, judge_dispute
+>>> black, white = ("fill", ((0, 0, 1),), (0, 0, 0, 15), "plain", 15), ("fill", ((0, 1, 2),), (15, 15, 15, 15), "plain", 15)
+>>> dispute((3, 1), ((black,), (white,))), do_agree((3, 1), ((black,), (), (black,)))
+(((0, 1, 1),), True)
+>>> judge_dispute((3, 1), ((black,), (white,)), dispute_paper((3, 1), ((black,), (white,)), (1, 0)))
+True
+"""),
+    ("merging", """
+>>> from paintershouse.merging import are_settled, clash, judge_parting, merged, merges, parting_paper
+>>> merges((3, 1), (black,), (white,)), are_settled((3, 1), (black, ("flip",)), ()), clash((3, 1), (white,), (black,), (white,))
+([(0, 1), (1, 0)], True, ((0, 1, 1),))
+>>> clear = ("erase", ((0, 0, 2),), 15)
+>>> judge_parting((3, 1), (black,), (white,), parting_paper((3, 1), (black,), (white,))), merged((3, 1), (clear,), (("flip",),), (("fall",),))
+(True, (('erase', ((0, 0, 2),), 15), ('flip',), ('fall',)))
+"""),
+    ("makers", """
+>>> from paintershouse.makers import made_by_deed, makers, origin
+>>> makers((3, 1), (black, white, ("flip",)), (1, 0)), made_by_deed((3, 1), (black, white), 0), origin((3, 1), (black, ("flip",)), (0, 0))
+([1], ((0, 0, 0),), (2, 0))
+"""),
+    ("rebasing", """
+>>> from paintershouse.rebasing import carried_over, rebased
+>>> carried_over((3, 1), black, ("flip",)), rebased((3, 1), (black, white), (("move", 1, 0),))[1][1]
+(('fill', ((0, 1, 2),), (0, 0, 0, 15), 'plain', 15), ((0, 2, 2),))
+"""),
+    ("grounds", """
+>>> from paintershouse.grounds import ground, keeps_to
+>>> soft = ("mean", ((0, 1, 1),), 1)
+>>> ground((4, 1), (soft,)), keeps_to((4, 1), (soft,), ((0, 1, 1),)), ground((4, 1), (("move", 0, 0),))
+(((0, 0, 2),), False, ())
+"""),
+    ("values", """
+>>> from paintershouse.values import read_value, value_text
+>>> value_text(("paint", "low", (("move", -1, 0), ("flip",)), "", ())), read_value("(group top _ (7 -3))")
+('(paint low ((move -1 0) (flip)) _ ())', ('group', 'top', '', (7, -3)))
+"""),
+    ("house", r"""
+>>> from paintershouse.house import House, load_house
+>>> house = House(2, 1)
+>>> red, none = (15, 0, 0, 15), (0, 0, 0, 0)
+>>> house.change(("layer", "", ("paint", "low", (1, "plain", 15, ()), ((none, none),)))), house.change(("paint", "low", (("fill", ((0, 1, 1),), red, "plain", 15),)))
+(1, 2)
+>>> house.seen(), house.undo(), house.seen(), house.redo(), house.now()
+(((none, red),), None, ((none, none),), None, 2)
+>>> house.mark("best"), house.go(1), house.change(("remove", "low")), house.go(2), house.image().split("\n")[2:]
+(None, (1, 0), 3, (1, 1), ['from 1 (paint low ((fill ((0 1 1)) (15 0 0 15) plain 15)))', 'from 1 (remove low)', 'way 0 1', 'way 1 2', 'mark best 2', ''])
+>>> load_house(house.image()).seen() == house.seen()
+True
+"""),
+    ("desk", r"""
+>>> from paintershouse.desk import run_script
+>>> run_script("now\nhouse 2 1\ndo (layer _ (paint low (1 plain 15 ()) (((15 0 0 15) (0 0 0 0)))))\nrow 0\nsame ((flip) (flip)) | ()\nleast ((flip)) | ()\nundo\npixel 0 0\ndo (remove low)\nodd")
+['none', 'ok', '1', 'f00f 0000', 'yes', '0000 0001', 'ok', '0000', 'missing', 'bad']
+"""),
+    ("palettes", """
+>>> from paintershouse.palettes import best_palette, distance_of, loss_of, nearest, reduced
+>>> red, dark, blue = (15, 0, 0, 15), (12, 0, 0, 15), (0, 0, 15, 15)
+>>> distance_of(red, dark), nearest((blue, red), dark), loss_of(((red, dark, dark, blue),), (blue, dark))
+(9, (15, 0, 0, 15), 9)
+>>> best_palette(((red, dark, dark, blue),), (blue, dark, red), 2), reduced(((red, blue),), (dark,))
+(((0, 0, 15, 15), (12, 0, 0, 15)), (((12, 0, 0, 15), (12, 0, 0, 15)),))
+"""),
+    ("scales", """
+>>> from paintershouse.scales import best_scale, counts_of_levels, judge_greys, loss_by, true_greys
+>>> counts = counts_of_levels(((0, 0, 1, 9, 15),))
+>>> counts[:2], loss_by(counts, (0, 12)), best_scale(counts, 2), best_scale(counts, 3)
+((2, 1), 19, (0, 12), (0, 9, 15))
+>>> judge_greys(counts, 2, 19, true_greys(counts, 2)), judge_greys(counts, 2, 20, true_greys(counts, 2))
+(True, False)
+"""),
+    ("dithers", """
+>>> from paintershouse.dithers import carried, ordered, thresholds
+>>> thresholds(1), ordered(((5, 5, 5, 5), (5, 5, 5, 5)), (0, 15), 1)
+(((0, 2), (3, 1)), ((15, 0, 15, 0), (0, 15, 0, 15)))
+>>> carried(((6, 6),), (0, 15))
+(((0, 15),), -48)
+"""),
+    ("films", """
+>>> from paintershouse.films import cut_film, joined, look_alike, root_of, seen_at, shift_of, strung
+>>> red, blue = (((15, 0, 0, 15),),), (((0, 0, 15, 15),),)
+>>> film = ((red, 2), (blue, 3), (red, 2), (blue, 3))
+>>> seen_at(film, 4) == blue, seen_at(film, 10), root_of(film) == ((red, 2), (blue, 3)), cut_film(film, 1, 4) == ((red, 1), (blue, 2))
+(True, None, True, True)
+>>> shift_of(film, ((blue, 1), (red, 2), (blue, 2))), look_alike(strung([cut_film(film, 0, 4), cut_film(film, 4, 10)]), film)
+(4, True)
+"""),
+    ("changes", """
+>>> from paintershouse.changes import are_prices, best_keys, best_prices, change_cost, keys_cost, works_of
+>>> one, two = ((red[0][0], red[0][0], blue[0][0]),), ((red[0][0], blue[0][0], blue[0][0]),)
+>>> change_cost(one, two), change_cost(one, one), works_of(((one, 1), (two, 1), (two, 1)), (0,))
+(3, 1, [3, 6, 7])
+>>> best_keys(((one, 1), (two, 1), (two, 1)), 6), keys_cost(((one, 1), (two, 1), (two, 1)), 6, (0, 1)), are_prices(((one, 1), (two, 1)), 6, (0, 3, 7))
+((0, 1), 7, False)
+"""),
+    ("threeways", """
+>>> from paintershouse.threeways import film_clash, merged_film
+>>> film_clash(((one, 1),), ((two, 1),), ((one, 1),)), merged_film(((one, 1),), ((two, 1),), ((one, 1),)) == ((two, 1),)
+([], True)
+"""),
 ]
 
 

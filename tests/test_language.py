@@ -18,7 +18,7 @@ StopIteration NotImplemented
 METHODS = set("""
 append clear copy count endswith extend find get index insert isalnum isalpha isdigit islower isspace isupper items
 join keys ljust lower lstrip partition pop remove replace reverse rfind rjust rpartition rsplit rstrip setdefault
-split splitlines startswith strip update upper values zfill bit_length sort add discard __init__
+split splitlines startswith strip update upper values zfill bit_length sort add discard isascii removeprefix __init__
 """.split())
 BARRED_NAMES = set("""
 mro elements open input law version_info with_traceback add_note register attrgetter breakpoint builtins compile
@@ -81,7 +81,20 @@ class FilesTests(unittest.TestCase):
                 self.assertIsInstance(node, (ast.ImportFrom, ast.FunctionDef, ast.ClassDef, ast.Assign), name)
                 if isinstance(node, ast.Assign):
                     self.assertEqual(len(node.targets), 1)
-                    ast.literal_eval(node.value)
+                    self.assert_plain(node.value, {item.name for item in tree.body[:k] if isinstance(item, ast.FunctionDef)})
+
+    def assert_plain(self, value, functions):
+        """A plain value, or a table of plain values and functions that are defined above."""
+        parts = value.elts if isinstance(value, ast.Tuple) else value.values if isinstance(value, ast.Dict) else [value]
+        keys = value.keys if isinstance(value, ast.Dict) else []
+        for part in parts:
+            if isinstance(part, ast.Name):
+                self.assertIsNot(part, value)
+                self.assertIn(part.id, functions)
+            else:
+                ast.literal_eval(part)
+        for key in keys:
+            ast.literal_eval(key)
 
     def test_one_binding_for_each_name(self):
         for name, tree in trees():

@@ -4,9 +4,10 @@ import copy
 import unittest
 
 from paintershouse import (
-    bits, deeds, distances, errors, exchange, flooding, footprints, forall, forgetting, forms, grown, guesses, layers,
-    leastcodes, menus, opened, outlines, parts, pictures, pixels, rectangles, regions, shades, shelf, sight, smaller,
-    strokes, texts, tiles,
+    bits, changes, deeds, desk, distances, dithers, errors, exchange, films, flooding, footprints, forall, forgetting,
+    formats, forms, grounds, grown, guesses, hands, house, layers, leastcodes, makers, menus, merging, opened, outlines,
+    palettes, parts, pictures, pixels, rebasing, rectangles, regions, scales, shades, shelf, sight, smaller, strokes,
+    texts, threeways, tiles, values,
 )
 from tests.making import Maker
 
@@ -37,6 +38,26 @@ MENU = (("flip",), ("fall",))
 FORM = forms.form_of(SIDES, DEEDS[:2])
 TONE = ("tone", RING, (tuple(range(15, -1, -1)),) * 3 + (tuple(range(16)),))
 ASKS, COSTS = (1, 2, 3, 1, 2), (5, 3, 1, 5, 3)
+HANDS = (PLAIN_DEEDS, MENU, ())
+POINTS_APART = regions.points_in(hands.dispute(SIDES, HANDS))
+CODE = formats.code_of(PICTURE, 5)
+VALUE = ("group", "top", "", (7, -3, ()))
+PALETTE = (NONE, (3, 4, 5, 6), RED)
+GREY = ((0, 3, 15), (9, 9, 2))
+COUNTS = scales.counts_of_levels(GREY)
+FILM = ((PICTURE, 2), (PICTURE, 1), (OTHER, 3))
+BASE_FILM, OTHER_FILM = ((PICTURE, 2), (PICTURE, 1), (PICTURE, 3)), ((OTHER, 2), (PICTURE, 1), (OTHER, 3))
+SCRIPT = "house 2 1\nnow\nodd\nsame () | ()"
+
+
+def made_house():
+    made = house.House(3, 2)
+    made.change(("layer", "", GROUP))
+    made.mark("best")
+    return made
+
+
+IMAGE = made_house().image()
 
 # A function, its arguments, and the kind of its result.
 CALLS = [
@@ -126,6 +147,37 @@ CALLS = [
     (leastcodes.judge_tree, ((5, 1, 2), (1, 2, 2), ()), bool),
     (guesses.folded, (-3,), int), (guesses.unfolded, (5,), int), (guesses.guessed, (4, RED, NONE, RED), tuple),
     (guesses.best_guesses, (PICTURE,), list), (guesses.pass_points, (9, 3, 2), list),
+    (formats.code_of, (PICTURE, 3), str), (formats.sizes_of, (PICTURE,), list), (formats.least_code, (PICTURE,), str),
+    (formats.read_code, (CODE,), tuple), (formats.seen_of, (CODE[:50],), tuple),
+    (hands.dispute, (SIDES, HANDS), tuple), (hands.do_agree, (SIDES, HANDS), bool),
+    (hands.dispute_paper, (SIDES, HANDS, POINTS_APART[0]), tuple),
+    (hands.judge_dispute, (SIDES, HANDS, ((0, 1, 2), (1, 0, 2), PICTURE, (0, 0))), bool),
+    (merging.merges, (SIDES, MENU, PLAIN_DEEDS[:2]), list), (merging.are_settled, (SIDES, MENU, MENU), bool),
+    (merging.parting_paper, (SIDES, MENU, PLAIN_DEEDS[:2]), tuple),
+    (merging.judge_parting, (SIDES, MENU, MENU, ((0, 0, 1, 1), (1, 1, 0, 0), PICTURE)), bool),
+    (merging.clash, (SIDES, MENU, PLAIN_DEEDS, MENU), tuple), (merging.merged, (SIDES, PLAIN_DEEDS, MENU, MENU), tuple),
+    (makers.makers, (SIDES, PLAIN_DEEDS, (1, 1)), list), (makers.made_by_deed, (SIDES, PLAIN_DEEDS, 0), tuple),
+    (makers.origin, (SIDES, MENU, (1, 1)), tuple), (makers.origin, (SIDES, (("move", 3, 0),), (1, 1)), None),
+    (rebasing.carried_over, (SIDES, DEEDS[3], ("flip",)), tuple), (rebasing.rebased, (SIDES, DEEDS[:4], MENU), tuple),
+    (grounds.keeps_to, (SIDES, DEEDS, ((0, 0, 2),)), bool), (grounds.ground, (SIDES, DEEDS[:4]), tuple),
+    (values.value_text, (VALUE,), str), (values.read_value, ("(group top _ (7 -3))",), tuple),
+    (values.read_value, ("-5",), int), (values.read_value, ("_",), str),
+    (desk.run_script, (SCRIPT,), list),
+    (palettes.check_palette, (PALETTE,), None), (palettes.distance_of, (RED, NONE), int),
+    (palettes.nearest, (PALETTE, (1, 2, 3, 4)), tuple), (palettes.reduced, (PICTURE, PALETTE), tuple),
+    (palettes.loss_of, (PICTURE, PALETTE), int), (palettes.best_palette, (PICTURE, PALETTE, 2), tuple),
+    (scales.check_grey, (GREY,), None), (scales.check_scale, ((0, 9),), None), (scales.check_counts, (COUNTS,), None),
+    (scales.counts_of_levels, (GREY,), tuple), (scales.loss_by, (COUNTS, (0, 9)), int), (scales.best_scale, (COUNTS, 3), tuple),
+    (scales.true_greys, (COUNTS, 3), tuple), (scales.judge_greys, (COUNTS, 3, 5, scales.true_greys(COUNTS, 3)), bool),
+    (dithers.thresholds, (2,), tuple), (dithers.ordered, (GREY, (0, 9), 1), tuple), (dithers.carried, (GREY, (0, 9)), tuple),
+    (films.check_film, (FILM,), None), (films.length_of, (FILM,), int), (films.seen_at, (FILM, 4), tuple),
+    (films.seen_at, (FILM, 6), None), (films.looped_at, (FILM, 6), tuple), (films.joined, (FILM,), tuple),
+    (films.look_alike, (FILM, FILM), bool), (films.cut_film, (FILM, 1, 4), tuple), (films.strung, ([FILM, FILM],), tuple),
+    (films.root_of, (FILM,), tuple), (films.shift_of, (FILM, FILM), int),
+    (changes.change_cost, (PICTURE, OTHER), int), (changes.works_of, (FILM, (0, 2)), list),
+    (changes.keys_cost, (FILM, 20, (0, 2)), int), (changes.best_keys, (FILM, 9), tuple), (changes.best_prices, (FILM, 9), tuple),
+    (changes.are_prices, (FILM, 9, (0, 1, 2, 3)), bool),
+    (threeways.film_clash, (BASE_FILM, FILM, OTHER_FILM), list), (threeways.merged_film, (BASE_FILM, FILM, BASE_FILM), tuple),
 ]
 CALLS += [(deeds.check_deed, (deed,), None) for deed in DEEDS]
 CALLS += [(deeds.done, (PICTURE, deed), tuple) for deed in DEEDS]
@@ -176,6 +228,39 @@ class UnchangedTests(unittest.TestCase):
             if kind is list:
                 spoil(call(*arguments))
         self.assertEqual([call(*arguments) for call, arguments, _ in CALLS], wanted)
+
+
+class HouseTests(unittest.TestCase):
+    def test_kinds_of_results(self):
+        made = made_house()
+        wanted = [
+            (made.now, (), int), (made.many, (), int), (made.document, (1,), tuple), (made.change_of, (1,), tuple), (made.seen, (), tuple),
+            (made.marked, (), list), (made.image, (), str), (made.copy, (), house.House), (made.undo, (), None), (made.redo, (), None),
+            (made.go, (0,), tuple), (made.mark, ("more",), None), (made.unmark, ("more",), None), (made.change, (("layer", "", GROUP),), int),
+        ]
+        for call, told, kind in wanted:
+            answer = call(*told)
+            if kind is None:
+                self.assertIsNone(answer)
+            else:
+                self.assertIs(type(answer), kind)
+        self.assertIs(type(house.load_house(IMAGE)), house.House)
+
+    def test_what_was_handed_stays(self):
+        change = ("layer", "", GROUP)
+        handed = copy.deepcopy(change)
+        made = made_house()
+        made.go(0)
+        made.change(handed)
+        made.change(("remove", "all"))
+        self.assertEqual(handed, change)
+        self.assertEqual(made.change_of(2), (0, change))
+
+    def test_lists_that_are_returned_are_new(self):
+        made = made_house()
+        spoil(made.marked())
+        self.assertEqual(made.marked(), [("best", 1)])
+        self.assertEqual(made.image(), IMAGE)
 
 
 class KindsTests(unittest.TestCase):
