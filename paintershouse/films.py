@@ -160,9 +160,9 @@ def shift_of(first, second):
 
 
 def _shifts(frames, time):
-    """Returns the list of the shifts with which some frame ends at a time in a loop, and of none."""
+    """Returns the list of the shifts with which some frame ends at a time in a loop."""
     long = _long(frames)
-    shifts, end = [0], 0
+    shifts, end = [], 0
     for _, lasting in frames:
         end += lasting
         shifts.append((end - time) % long)

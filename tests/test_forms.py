@@ -4,7 +4,9 @@ import unittest
 
 from paintershouse.deeds import done_all
 from paintershouse.errors import Missing, NotAllowed
-from paintershouse.forms import check_plain, drawn_by, form_behind, form_of, least_picture
+from paintershouse.forms import (
+    FormBook, check_plain, deed_form, drawn_by, form_behind, form_of, least_picture, picture_apart, told_entries,
+)
 from paintershouse.pictures import points_of
 from paintershouse.shades import PLAIN_SHADE, fixed_pixel
 from tests.making import GREYS, MODES, Maker, dot
@@ -216,6 +218,37 @@ class MainTheoremTests(unittest.TestCase):
             self.assertEqual(form_behind(form, behind), form_of(sides, deeds + later))
             picture = maker.picture(*sides)
             self.assertEqual(drawn_by(form_behind(form, behind), picture), done_all(picture, deeds + later))
+
+
+class BookTests(unittest.TestCase):
+    """Forms by entries with numbers tell the same as forms by themselves."""
+
+    def test_forms_there_and_back(self):
+        for maker, sides, deeds in plain_rows(118, 100):
+            book, later = FormBook(sides), maker.busy_row(*sides, 3)
+            self.assertEqual(book.form(book.row(deeds)), form_of(sides, deeds))
+            self.assertEqual(book.form(book.taken(form_of(sides, deeds))), form_of(sides, deeds))
+            forms = [book.taken(deed_form(sides, deed)) for deed in deeds + later]
+            self.assertEqual(book.form(book.all_behind(forms)), form_of(sides, deeds + later))
+            self.assertEqual(book.form(book.put_behind(book.row(deeds), book.row(later))), form_of(sides, deeds + later))
+            self.assertEqual(book.form(book.plain()), form_of(sides, ()))
+            told = told_entries(form_of(sides, deeds + later))
+            for at, point in enumerate(points_of(*sides)):
+                self.assertEqual(book.point(at), point)
+                self.assertEqual(book.told(book.entry_at(forms, at)), told[point])
+                self.assertEqual(book.entry_at(forms, at), book.all_behind(forms)[at])
+
+    def test_pictures_that_tell_two_entries_apart(self):
+        found = 0
+        for maker, sides, deeds in plain_rows(119, 120):
+            other = maker.busy_row(*sides, 2) if maker.number(0, 1) else deeds[1:]
+            one, rest = told_entries(form_of(sides, deeds)), told_entries(form_of(sides, other))
+            for x, y in points_of(*sides):
+                if one[(x, y)] != rest[(x, y)]:
+                    found += 1
+                    picture = picture_apart(sides, one[(x, y)], rest[(x, y)])
+                    self.assertNotEqual(done_all(picture, deeds)[y][x], done_all(picture, other)[y][x])
+        self.assertGreater(found, 150)
 
 
 class LeastPictureTests(unittest.TestCase):

@@ -229,6 +229,7 @@ class HouseTests(unittest.TestCase):
             self.assertEqual(house.document(0), (wide, high, ()))
             self.assertEqual(house.change_of(0), (-1, ()))
             self.assertEqual(house.seen(), ((NONE,) * wide,) * high)
+            self.assertEqual(all_told(house.copy()), all_told(house))
         for wide, high in ((0, 1), (1, 0), (25, 1), (1, 25), (-1, -1)):
             self.assertRaises(NotAllowed, House, wide, high)
 

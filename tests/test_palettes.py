@@ -104,6 +104,14 @@ class BestTests(unittest.TestCase):
         self.assertEqual(best_palette(((RED,),), (BLUE,), 8), (BLUE,))
         self.assertEqual(best_palette(((RED, DARK, BLUE),), (BLUE, DARK, RED), 3), (BLUE, DARK, RED))
 
+    def test_pixels_count_as_often_as_they_are_there(self):
+        one, other, between = (5, 0, 0, 15), (8, 0, 0, 15), (7, 0, 0, 15)
+        wanted = {(1, 1): between, (2, 1): one, (3, 1): one, (1, 2): between, (9, 10): between, (15, 7): one}
+        for (many, more), pixel in wanted.items():
+            picture = ((one,) * many + (other,) * more,)
+            self.assertEqual(best_palette(picture, (one, between), 1), plain_best(picture, (one, between), 1))
+            self.assertEqual(best_palette(picture, (one, between), 1), (pixel,))
+
     def test_fourteen_candidates(self):
         maker = Maker(406)
         picture, candidates = maker.picture(4, 4), maker.few_pixels(14)
