@@ -12,8 +12,8 @@ MAX_NODES = 60
 MAX_IMAGE = 200000
 # In so many tuples stands a level of a picture, if its layer is put into four groups.
 IMAGE_NESTED = 13
-# A deed may copy by greater numbers than a value tells that is read; Python tells none with many more digits.
-IMAGE_DIGITS = 4000
+# A deed may copy by greater numbers than a value tells that is read; Python tells none with more digits.
+IMAGE_DIGITS = 4300
 
 # What stands behind the word of each change.
 CHANGES = {

@@ -93,7 +93,7 @@ class ImageTests(unittest.TestCase):
         self.assertEqual(all_told(load_house(house.image())), all_told(house))
         house = House(2, 1)
         house.change(("layer", "", LOW))
-        house.change(("paint", "low", (("copy", ((0, 0, 0),), 12345678, -10 ** 30),)))
+        house.change(("paint", "low", (("copy", ((0, 0, 0),), 12345678, -10 ** 30), ("copy", (), 10 ** 4299, 1 - 10 ** 4300))))
         self.assertEqual(all_told(load_house(house.image())), all_told(house))
 
     def test_a_house_of_sixty_documents(self):
